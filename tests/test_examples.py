@@ -1,0 +1,76 @@
+"""The examples of the document, word for word."""
+
+import os
+import re
+import unittest
+
+import wholebyparts.errors
+from tests.helpers import attribute_of
+
+PLACE = os.path.join(os.path.dirname(__file__), "examples.txt")
+MODULES = {
+    1: ("wholebyparts.part.structures",),
+    2: ("wholebyparts.say.formulas",),
+    3: ("wholebyparts.say.meaning", "wholebyparts.part.structures"),
+    4: ("wholebyparts.kinds.kinds", "wholebyparts.part.structures"),
+    5: ("wholebyparts.kinds.parting", "wholebyparts.kinds.kinds", "wholebyparts.part.structures",
+        "wholebyparts.say.meaning"),
+    6: ("wholebyparts.kinds.games", "wholebyparts.part.structures"),
+    7: ("wholebyparts.read.readers",),
+}
+
+
+def blocks():
+    """The stage and the lines of each block of examples."""
+    found = []
+    with open(PLACE, encoding="ascii") as file:
+        for line in file.read().splitlines():
+            if line.startswith("# Stage "):
+                found.append((int(line[8:]), []))
+            else:
+                found[-1][1].append(line)
+    return found
+
+
+class Examples(unittest.TestCase):
+    def names_of(self, stage):
+        names = {}
+        for path in reversed(MODULES[stage]):
+            exec(f"from {path} import *", names)
+        return names
+
+    def check_raised(self, names, said, wanted):
+        found = re.fullmatch(r"raises (\w+)(?:\((.*)\))?", wanted)
+        kind = getattr(wholebyparts.errors, found.group(1))
+        with self.assertRaises(kind) as caught:
+            eval(said, names)
+        self.assertIs(type(caught.exception), kind)
+        if found.group(2) is not None:
+            self.assertEqual(repr(attribute_of(caught.exception)), found.group(2))
+
+    def check_block(self, stage, lines):
+        names = self.names_of(stage)
+        checked = 0
+        for line, wanted in zip(lines, [*lines[1:], ">>> "]):
+            if not line.startswith(">>> "):
+                continue
+            if wanted.startswith(">>> "):
+                exec(line[4:], names)
+            elif wanted.startswith("raises "):
+                self.check_raised(names, line[4:], wanted)
+                checked += 1
+            else:
+                self.assertEqual(repr(eval(line[4:], names)), wanted, line)
+                checked += 1
+        return checked
+
+    def test_all(self):
+        found = blocks()
+        self.assertEqual([stage for stage, _ in found], sorted(MODULES))
+        for stage, lines in found:
+            with self.subTest(stage=stage):
+                self.assertEqual(self.check_block(stage, lines), len([x for x in lines if not x.startswith(">>> ")]))
+
+
+if __name__ == "__main__":
+    unittest.main()

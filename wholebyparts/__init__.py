@@ -1,0 +1,1 @@
+"""Questions about structures that are put together, answered part by part."""

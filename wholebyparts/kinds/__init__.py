@@ -1,0 +1,1 @@
+"""Kinds of rows, formulas that part them, and games."""

@@ -1,0 +1,1 @@
+"""Structures, the parts of which wholes are made."""

@@ -1,0 +1,1 @@
+"""Readers: finite automata over the parts."""

@@ -1,0 +1,1 @@
+"""Formulas, and where they hold."""
