@@ -4,6 +4,7 @@ from itertools import combinations, product
 
 from wholebyparts.part.structures import Structure
 from wholebyparts.read.readers import Reader
+from wholebyparts.shape.shapes import Shape, ahead_shape, first_shape, opposite_link, product_shape, some_shape, sum_shape
 
 BIG = 10 ** 99 + 7
 
@@ -35,6 +36,9 @@ WRONG = (
 )
 
 
+NO_SIGNATURES = [*WRONG, (), (0,), (0, 3), (-1, 0), (True, 0), (0, False), [0, 0], (0, 0, 0), (0, None)]
+
+
 def without_some(values, *kinds):
     """The values that are of none of these classes."""
     return [value for value in values if not isinstance(value, kinds)]
@@ -42,8 +46,10 @@ def without_some(values, *kinds):
 
 NO_STRUCTURES = [*without_some(WRONG, Structure), ()]
 NO_READERS = [*without_some(WRONG, Reader), ()]
+NO_SHAPES = [*WRONG, (), ((0, 0), ((), Reader(1, ((0,),), (0,))), (), ())]
 NO_NUMBERS = [*WRONG, -1, (), (0,), "0"]
 NO_ROWS = [*WRONG, (-2,), (True,), (False,), (60,), (0, 0, 0, 0, 0), [0], (-1, None), ((0,),), ("0",)]
+NO_WORDS = [*WRONG, (2,), (0, 2), (-1,), (True,), (0, False), [0], "01", (0,) * 2001, (0, None), ((0,),)]
 NO_FORMULAS = [
     *WRONG, (), ("not", ()), ("some",), ("true", 0), ("some", ("none", True)), ("none", False), ("mark", False, 0), ("mark", 0, -1),
     ("link", 0, 0), ["true"], ("not", ["true"]), ("and", ("true",)), ("none", 4), ("maybe", ("true",)), (("true",),),
@@ -232,3 +238,124 @@ def of_nodes(nodes, formula=("true",)):
     if nodes % 2 == 0:
         return ("not", balanced("and", formula, nodes - 1))
     return balanced("and", formula, nodes)
+
+
+def all_words(letters, longest):
+    """All words of at most so many letters, shorter ones first, then ascending."""
+    return [word for length in range(longest + 1) for word in product(range(letters), repeat=length)]
+
+
+def plain_state(reader, word):
+    """The state behind the word, letter by letter."""
+    state = 0
+    for letter in word:
+        state = reader.steps[state][letter]
+    return state
+
+
+def plainly_takes(reader, word):
+    """Whether the word is taken, letter by letter."""
+    return plain_state(reader, word) in reader.accepting
+
+
+def some_readers(seed, many, letters=3, states=6):
+    """Readers with at most so many letters and states."""
+    chooser = Chooser(seed)
+    return [chooser.reader(1 + chooser.number(letters), 1 + chooser.number(states)) for _ in range(many)]
+
+
+def plain_lots(reader):
+    """For each state of a reader the number of its lot of alike states: parted letter by letter."""
+    lots = [int(state in reader.accepting) for state in range(reader.states)]
+    for _ in range(reader.states):
+        keys = [(lots[state], *[lots[goal] for goal in reader.steps[state]]) for state in range(reader.states)]
+        lots = [sorted(set(keys)).index(key) for key in keys]
+    return lots
+
+
+def is_plainly_least(reader):
+    """Whether all states are met, in their sequence, and none are alike."""
+    order = [0]
+    for state in order:
+        order.extend([goal for goal in dict.fromkeys(reader.steps[state]) if goal not in order])
+    return order == list(range(reader.states)) and len(set(plain_lots(reader))) == reader.states
+
+
+def check_takes(test, reader, begin, step, accepts):
+    """The reader is least and takes just what is told by a begin, steps by letters, and what accepts."""
+    test.assertTrue(is_plainly_least(reader))
+    met = {(0, begin)}
+    waiting = [(0, begin)]
+    while waiting:
+        state, thing = waiting.pop()
+        test.assertEqual(state in reader.accepting, accepts(thing))
+        for letter in range(reader.letters):
+            longer = (reader.steps[state][letter], step(thing, letter))
+            if longer not in met:
+                met.add(longer)
+                waiting.append(longer)
+
+
+def cycle(states, accepting=(0,), letters=1):
+    """The reader that counts letters in turn."""
+    return Reader(letters, tuple(((state + 1) % states,) * letters for state in range(states)), accepting)
+
+
+def line(states, accepting, letters=1):
+    """The reader that counts letters up to its last state."""
+    return Reader(letters, tuple((min(state + 1, states - 1),) * letters for state in range(states)), accepting)
+
+
+# What is told of a shape and of parts, by the words of the document alone.
+
+def plain_letter(rule, structure, row):
+    return sum(2 ** index for index, test in enumerate(rule[0]) if plainly_holds(structure, test, row))
+
+
+def plainly_rules(rule, parts, rows):
+    """Whether the rule holds for the rows."""
+    return plainly_takes(rule[1], [plain_letter(rule, part, row) for part, row in zip(parts, rows)])
+
+
+def plain_things(shape, parts):
+    rows = product(*[range(-1, part.size) for part in parts])
+    return [row for row in rows if plainly_rules(shape.domain, parts, [(member,) for member in row])]
+
+
+def plain_whole(shape, parts):
+    """The whole, element by element."""
+    things = plain_things(shape, parts)
+    names = list(enumerate(things))
+    marks = [tuple(name for name, thing in names if plainly_rules(rule, parts, [(member,) for member in thing]))
+             for rule in shape.marks]
+    links = [tuple((a, b) for a, one in names for b, other in names if plainly_rules(rule, parts, list(zip(one, other))))
+             for rule in shape.links]
+    return Structure(len(things), tuple(marks), tuple(links))
+
+
+def some_rules(chooser, signature, places, many, states=4, depth=1):
+    """Rules with 0 to 3 tests of depth 0 or 1."""
+    found = []
+    for _ in range(many):
+        tests = tuple(chooser.formula(signature, places, chooser.number(depth + 1), 1 + chooser.number(5))
+                      for _ in range(chooser.number(4)))
+        found.append((tests, chooser.reader(2 ** len(tests), 1 + chooser.number(states))))
+    return found
+
+
+def some_shapes(chooser, many, depth=1):
+    """Shapes with rules of all forms, and those that have names."""
+    found = []
+    for index in range(many):
+        signature = (chooser.number(3), chooser.number(3))
+        if index % 2:
+            made = [product_shape(signature), sum_shape(signature), some_shape(signature)]
+            made += [call(signature, link) for call in (ahead_shape, first_shape) for link in range(signature[1])]
+            made += [opposite_link(shape, link) for shape in list(made) for link in range(signature[1])]
+            found.append(chooser.one_of(made))
+            continue
+        domain = some_rules(chooser, signature, 1, 1, 3, depth)[0]
+        marks = some_rules(chooser, signature, 1, chooser.number(3), 3, depth)
+        links = some_rules(chooser, signature, 2, chooser.number(3), 3, depth)
+        found.append(Shape(signature, domain, tuple(marks), tuple(links)))
+    return found

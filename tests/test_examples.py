@@ -17,6 +17,16 @@ MODULES = {
         "wholebyparts.say.meaning"),
     6: ("wholebyparts.kinds.games", "wholebyparts.part.structures"),
     7: ("wholebyparts.read.readers",),
+    8: ("wholebyparts.read.making", "wholebyparts.read.readers"),
+    9: ("wholebyparts.read.sets", "wholebyparts.read.readers"),
+    10: ("wholebyparts.read.counts", "wholebyparts.read.readers"),
+    11: ("wholebyparts.shape.rules", "wholebyparts.part.structures", "wholebyparts.read.readers"),
+    12: ("wholebyparts.shape.shapes", "wholebyparts.shape.rules", "wholebyparts.shape.wholes",
+         "wholebyparts.part.structures", "wholebyparts.read.readers"),
+    13: ("wholebyparts.shape.wholes", "wholebyparts.shape.shapes", "wholebyparts.part.structures"),
+    14: ("wholebyparts.main.machine", "wholebyparts.shape.shapes", "wholebyparts.part.structures",
+         "wholebyparts.read.readers"),
+    15: ("wholebyparts.main.asked", "wholebyparts.shape.shapes", "wholebyparts.part.structures"),
 }
 
 

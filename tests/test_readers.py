@@ -3,7 +3,8 @@
 import unittest
 from itertools import product
 
-from tests.helpers import BIG, NO_NUMBERS, NO_READERS, WRONG, Chooser, refuses, refuses_each
+from tests.helpers import BIG, DEEP_TUPLE, DOUBLED, NO_NUMBERS, NO_READERS, NO_WORDS, WRONG, Chooser, plain_state
+from tests.helpers import refuses, refuses_each, some_readers
 from wholebyparts.errors import InvalidNumber, InvalidReader, InvalidWord, TooMany
 from wholebyparts.read import readers
 from wholebyparts.read.readers import Reader, after_times, first_word, met, reader_fault, state_after, takes
@@ -12,19 +13,6 @@ from wholebyparts.read.readers import word_count, words
 EVEN = Reader(2, ((0, 1), (1, 0)), (0,))
 BOTH = Reader(2, ((1, 0), (2, 0), (2, 2), (3, 3)), (2,))
 ALL = Reader(1, ((0,),), (0,))
-NO_WORDS = [*WRONG, (2,), (0, 2), (-1,), (True,), (0, False), [0], "01", (0,) * 2001, (0, None), ((0,),)]
-
-
-def plain_state(reader, word):
-    state = 0
-    for letter in word:
-        state = reader.steps[state][letter]
-    return state
-
-
-def some_readers(seed, many):
-    chooser = Chooser(seed)
-    return [chooser.reader(1 + chooser.number(3), 1 + chooser.number(6)) for _ in range(many)]
 
 
 class Data(unittest.TestCase):
@@ -152,6 +140,22 @@ class Reading(unittest.TestCase):
                            (6,) + (4,) * 20, (3,) + (4,) * 20), (3,))
         self.assertEqual(word_count(just, 3), 2001)
         refuses(self, TooMany, 2000, words, just, 3)
+
+    def test_long_words_of_some_readers(self):
+        self.assertEqual((state_after(EVEN, (0, 1) * 1000), takes(EVEN, (0, 1) * 1000), after_times(EVEN, (0, 1) * 1000, 5)),
+                         (0, True, 0))
+        for reader in some_readers(56, 40):
+            chooser = Chooser(reader.states)
+            word = tuple(chooser.number(reader.letters) for _ in range(300))
+            self.assertEqual(state_after(reader, word), plain_state(reader, word))
+            self.assertIs(takes(reader, word), plain_state(reader, word) in reader.accepting)
+            for times in (0, 1, 2, 3, 7):
+                self.assertEqual(after_times(reader, word, times), plain_state(reader, word * times))
+            for wrong in (True, False, -1, reader.letters, None, BIG, -BIG, [0], (0,), DEEP_TUPLE, DOUBLED, EVEN):
+                for call in (state_after, takes):
+                    refuses(self, InvalidWord, None, call, reader, (*word, wrong))
+                    refuses(self, InvalidWord, None, call, reader, (wrong, *word))
+                refuses(self, InvalidWord, None, after_times, reader, (*word, wrong), -1)
 
     def test_after_times(self):
         for reader in some_readers(55, 60):

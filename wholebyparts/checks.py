@@ -7,7 +7,17 @@ MOST_MEMBERS = 4
 
 def is_integer(value):
     """Whether the value is an integer: True and False are none."""
-    return isinstance(value, int) and not isinstance(value, bool)
+    return type(value) is int
+
+
+def are_integers(values):
+    """Whether all of the values are integers: this is asked of long tuples, so nothing is called for each member."""
+    return not [value for value in values if type(value) is not int]
+
+
+def are_indices(values, many):
+    """Whether all of the values are indices of so many things."""
+    return are_integers(values) and (not values or (min(values) >= 0 and max(values) < many))
 
 
 def is_between(value, low, high):
@@ -27,28 +37,26 @@ def is_ascending(values):
 
 def is_index_tuple(value, many):
     """Whether the value is an ascending tuple of indices of so many things."""
-    if not isinstance(value, tuple):
-        return False
-    return all([is_index(member, many) for member in value]) and is_ascending(value)
+    return isinstance(value, tuple) and are_indices(value, many) and is_ascending(value)
 
 
-def is_index_pair(value, many):
-    """Whether the value is a pair of indices of so many things."""
-    return isinstance(value, tuple) and len(value) == 2 and all([is_index(member, many) for member in value])
+def are_pairs(values):
+    """Whether all of the values are tuples of two members."""
+    return not [value for value in values if type(value) is not tuple or len(value) != 2]
 
 
 def is_pair_tuple(value, many):
     """Whether the value is an ascending tuple of pairs of indices of so many things."""
-    if not isinstance(value, tuple):
+    if not isinstance(value, tuple) or not are_pairs(value):
         return False
-    return all([is_index_pair(member, many) for member in value]) and is_ascending(value)
+    return are_indices([member for pair in value for member in pair], many) and is_ascending(value)
 
 
 def is_order(value, many):
     """Whether the value is a tuple of the numbers from 0 to many - 1, each once."""
     if not isinstance(value, tuple) or len(value) != many:
         return False
-    return all([is_index(member, many) for member in value]) and len(set(value)) == many
+    return are_indices(value, many) and len(set(value)) == many
 
 
 def check_number(value, low, high):

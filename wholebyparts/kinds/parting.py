@@ -6,11 +6,8 @@ from wholebyparts.kinds.numbering import Numbering
 from wholebyparts.kinds.pairs import check_alike, check_limits, check_rows, check_sides
 from wholebyparts.kinds.trees import check_kind, cut_to, depth_told, is_last_none, some_members, with_none_ahead
 from wholebyparts.part.structures import check_signature
-from wholebyparts.say.formulas import bounded, is_well_formed, most_depth, quantified
+from wholebyparts.say.formulas import NEVER, bounded, is_well_formed, joined, most_depth, quantified
 from wholebyparts.say.levels import holds_at
-
-NEVER = ("not", ("true",))
-
 
 def formula_of(signature, places, kind):
     """Any formula that holds at just the rows of the kind."""
@@ -63,16 +60,6 @@ def _behind_told(places, tree):
         told = _place_told(member[0], places, True) + _behind_told(places + 1, member)
         found.append(joined("and", told))
     return [("some", formula) for formula in found] + [("all", joined("or", found))]
-
-
-def joined(word, formulas):
-    """All of the formulas with the word between them, so that few stand within one another."""
-    if not formulas:
-        return ("true",) if word == "and" else NEVER
-    if len(formulas) == 1:
-        return formulas[0]
-    half = len(formulas) // 2
-    return (word, joined(word, formulas[:half]), joined(word, formulas[half:]))
 
 
 def parting_answer(one, row, other, goal, depth):

@@ -5,7 +5,7 @@ from wholebyparts.errors import InvalidKind
 from wholebyparts.kinds.atoms import atom_of, atom_tells, atom_with_none, atom_without, is_atom
 from wholebyparts.part.rows import NONE
 from wholebyparts.say.formulas import most_depth
-from wholebyparts.say.levels import Levels
+from wholebyparts.say.levels import RowLevels
 
 
 def kind_of(structure, row, depth):
@@ -90,7 +90,7 @@ def with_none_ahead(tree, places, place):
     return (atom_with_none(tree[0], places, place), ascending(members))
 
 
-class KindLevels(Levels):
+class KindLevels(RowLevels):
     """Kinds as rows; quantifiers go over the members whose last place is an element."""
 
     def __init__(self, places, tree):

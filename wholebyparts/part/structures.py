@@ -43,6 +43,7 @@ class Structure:
         # Asked far more often than a search through the tuples would allow.
         self._marked = [{member: True for member in mark} for mark in marks]
         self._linked = [{pair: True for pair in link} for link in links]
+        self._lines = {}
 
     def __eq__(self, other):
         if not isinstance(other, Structure):
@@ -59,6 +60,26 @@ class Structure:
     def is_linked(self, link, member, goal):
         """Whether the link holds of both members of a row; it never holds of none."""
         return (member, goal) in self._linked[link]
+
+    def mark_bits(self, mark):
+        """For each element 1 or 0, as a string: whether the mark holds of it."""
+        return "".join(["1" if member in self._marked[mark] else "0" for member in range(self.size)])
+
+    def loop_bits(self, link):
+        """For each element 1 or 0, as a string: whether the link holds of it and itself."""
+        return "".join(["1" if (member, member) in self._linked[link] else "0" for member in range(self.size)])
+
+    def link_bits(self, link, member, is_turned):
+        """For each element 1 or 0: whether the link holds of the member and it; if turned, of it and the member."""
+        if (link, is_turned) not in self._lines:
+            rows = [["0"] * self.size for _ in range(self.size)]
+            for a, b in self.links[link]:
+                if is_turned:
+                    rows[b][a] = "1"
+                else:
+                    rows[a][b] = "1"
+            self._lines[(link, is_turned)] = ["".join(row) for row in rows]
+        return self._lines[(link, is_turned)][member]
 
 
 def is_signature(value):

@@ -1,6 +1,6 @@
 """Readers: finite automata that read words, letter by letter."""
 
-from wholebyparts.checks import check_number, is_between, is_index_tuple, is_index
+from wholebyparts.checks import are_indices, are_integers, check_number, is_between, is_index_tuple
 from wholebyparts.errors import InvalidReader, InvalidWord, TooMany
 
 MOST_LETTERS = 64
@@ -9,6 +9,8 @@ MOST_WORD = 2000
 MOST_LENGTH = 99
 MOST_LISTED = 2000
 MOST_TIMES = 10 ** 60 - 1
+# A word so many times longer than a reader has steps is read by rows that are linked for it alone.
+PAYS = 4
 
 
 def reader_fault(letters, steps, accepting):
@@ -27,9 +29,7 @@ def reader_fault(letters, steps, accepting):
 
 def _is_step(letters, states, value):
     """Whether the value is a tuple of one state for each letter."""
-    if not isinstance(value, tuple) or len(value) != letters:
-        return False
-    return all([is_index(goal, states) for goal in value])
+    return isinstance(value, tuple) and len(value) == letters and are_indices(value, states)
 
 
 class Reader:
@@ -59,25 +59,64 @@ def check_reader(value):
         raise InvalidReader("this is no reader")
 
 
+def is_word(letters, value):
+    """Whether the value is a word of so many letters."""
+    if not _are_integers_of_word(value):
+        return False
+    told = sorted(set(value))
+    return not told or (told[0] >= 0 and told[-1] < letters)
+
+
 def check_word(letters, value):
     """Refuse what is no word of so many letters."""
-    if not isinstance(value, tuple) or len(value) > MOST_WORD:
-        raise InvalidWord(f"this is no tuple of at most {MOST_WORD} letters")
-    if not all([is_index(letter, letters) for letter in value]):
-        raise InvalidWord(f"the word has members that are none of {letters} letters")
+    if not is_word(letters, value):
+        raise InvalidWord(f"this is no word of {letters} letters")
+
+
+def _are_integers_of_word(value):
+    """Whether the value is a tuple of integers, as long as a word."""
+    return isinstance(value, tuple) and len(value) <= MOST_WORD and are_integers(value)
 
 
 def state_after(reader, word):
     """The state behind the word."""
     check_reader(reader)
-    check_word(reader.letters, word)
-    return state_from(reader, 0, word)
+    return _state_of_any(reader, word)
+
+
+def _state_of_any(reader, value):
+    """The state behind the value, which is refused unless it is a word."""
+    if not isinstance(value, tuple) or len(value) < PAYS * reader.states * reader.letters:
+        check_word(reader.letters, value)
+        return state_from(reader, 0, value)
+    if not _are_integers_of_word(value):
+        raise InvalidWord("this is no tuple of integers, as long as a word")
+    row = _linked_rows(reader)[0]
+    try:
+        for letter in value:
+            row = row[letter]
+    except KeyError:
+        raise InvalidWord(f"the word has members that are none of {reader.letters} letters") from None
+    return row[None]
+
+
+def _linked_rows(reader):
+    """For each state a dict that has for each letter the dict of the next state, for None the state itself.
+
+    A word that is long beside the reader is read by these in one go, as what is no letter is met on the way.
+    """
+    rows = [{None: state} for state in range(reader.states)]
+    for row, step in zip(rows, reader.steps):
+        for letter, goal in enumerate(step):
+            row[letter] = rows[goal]
+    return rows
 
 
 def state_from(reader, state, word):
     """The state to which the word leads from the state."""
+    steps = reader.steps
     for letter in word:
-        state = reader.steps[state][letter]
+        state = steps[state][letter]
     return state
 
 
@@ -153,15 +192,32 @@ def words(reader, length):
 def after_times(reader, word, times):
     """The state behind the word, read so many times."""
     check_reader(reader)
-    check_word(reader.letters, word)
+    state = _state_of_any(reader, word)
     check_number(times, 0, MOST_TIMES)
-    behind = [0]
-    seen = {0: 0}
-    while len(behind) <= times:
-        state = state_from(reader, behind[-1], word)
+    return at_time(times_met(reader, word, 0, times, state), times)
+
+
+def times_met(reader, word, begin, times, once=None):
+    """The states behind the word, read 0, 1, 2, .. times from a state on, until one comes again or all are told.
+
+    The answer is their list, and the index in it of the one that comes again behind it, None if none does. The
+    state behind the word, read once, can be handed in.
+    """
+    row = [begin]
+    seen = {begin: 0}
+    while len(row) <= times:
+        state = state_from(reader, row[-1], word) if once is None else once
+        once = None
         if state in seen:
-            first = seen[state]
-            return behind[first + (times - first) % (len(behind) - first)]
-        seen[state] = len(behind)
-        behind.append(state)
-    return behind[times]
+            return (row, seen[state])
+        seen[state] = len(row)
+        row.append(state)
+    return (row, None)
+
+
+def at_time(told, times):
+    """What comes at the time in a list that begins again at an index; if at none, the time is in the list."""
+    row, first = told
+    if times < len(row):
+        return row[times]
+    return row[first + (times - first) % (len(row) - first)]

@@ -15,6 +15,7 @@ PARTS = {"not": 1, "and": 2, "or": 2, "some": 1, "all": 1}
 QUANTIFIERS = ("some", "all")
 # The words that change places when a formula is turned into its opposite.
 OPPOSITES = {"and": "or", "or": "and", "some": "all", "all": "some"}
+NEVER = ("not", ("true",))
 
 
 def is_formula(signature, free, value):
@@ -242,3 +243,13 @@ def with_order(formula, order):
     for letter, number in zip(NUMBERS[word], formula[1:]):
         told.append(order[number] if letter == "v" and number < len(order) else number)
     return tuple(told)
+
+
+def joined(word, formulas):
+    """All of the formulas with the word between them, so that few stand within one another."""
+    if not formulas:
+        return ("true",) if word == "and" else NEVER
+    if len(formulas) == 1:
+        return formulas[0]
+    half = len(formulas) // 2
+    return (word, joined(word, formulas[:half]), joined(word, formulas[half:]))

@@ -1,0 +1,1 @@
+"""Questions about wholes, answered by readers over a stock of parts."""

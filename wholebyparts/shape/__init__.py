@@ -1,0 +1,1 @@
+"""Rules, shapes, and the wholes that they make of parts."""
