@@ -1,8 +1,9 @@
 """Games between two structures: books for the second player, trees of moves for the first one."""
 
-from wholebyparts.checks import MOST_MEMBERS, ascending, check_index, check_number, is_ascending, is_index
+from wholebyparts.checks import MOST_MEMBERS, are_integers, are_pairs, check_index, check_number, is_ascending, is_index
 from wholebyparts.errors import InvalidBook, InvalidOperation
 from wholebyparts.kinds.atoms import atom_of
+from wholebyparts.kinds.codes import has_equal_atoms, told_behind, told_of_last
 from wholebyparts.kinds.numbering import Numbering
 from wholebyparts.kinds.pairs import check_alike, check_limits, check_rows, check_sides, check_signatures
 from wholebyparts.part.rows import NONE, is_row
@@ -33,21 +34,46 @@ def _holds_book(one, other, value):
 
 def _is_level(one, other, rounds, value):
     """Whether the value is an ascending tuple of pairs of rows with equal atoms, for so many rounds."""
-    if not isinstance(value, tuple):
+    if not isinstance(value, tuple) or not are_pairs(value):
         return False
-    for pair in value:
-        if not _is_pair(one, other, pair) or len(pair[0]) > MOST_MEMBERS - rounds:
+    rows, goals = [row for row, _ in value], [goal for _, goal in value]
+    if not _are_rows(one, rounds, rows) or not _are_rows(other, rounds, goals) or not is_ascending(value):
+        return False
+    return _have_equal_atoms(one, other, value)
+
+
+def _are_rows(structure, rounds, values):
+    """Whether all of the values are rows of the structure, so short that so many rounds can follow."""
+    if [row for row in values if type(row) is not tuple or len(row) > MOST_MEMBERS - rounds]:
+        return False
+    members = [member for row in values for member in row]
+    return are_integers(members) and (not members or (min(members) >= NONE and max(members) < structure.size))
+
+
+def _have_equal_atoms(one, other, pairs):
+    """Whether both rows of each pair are equally long, and have equal atoms."""
+    sides = (one.codes(), other.codes())
+    # Many rows begin alike: beginnings are compared once, and what is told behind them stands in lists, none last.
+    known = {}
+    lists = ({}, {})
+    for row, goal in pairs:
+        if len(row) != len(goal):
             return False
-        if atom_of(one, pair[0]) != atom_of(other, pair[1]):
+        if not row:
+            continue
+        ahead, others = row[:-1], goal[:-1]
+        if (ahead, others) not in known:
+            known[(ahead, others)] = has_equal_atoms(sides, ahead, others)
+            lists[0][ahead] = [*told_behind(sides[0], ahead), ()]
+            lists[1][others] = [*told_behind(sides[1], others), ()]
+        if not known[(ahead, others)] or lists[0][ahead][row[-1]] != lists[1][others][goal[-1]]:
             return False
-    return is_ascending(value)
+    return True
 
 
 def _is_pair(one, other, value):
-    """Whether the value is a pair of equally long rows, of the one and of the other structure."""
-    if not isinstance(value, tuple) or len(value) != 2:
-        return False
-    return is_row(one, value[0]) and is_row(other, value[1]) and len(value[0]) == len(value[1])
+    """Whether the value is a pair of rows, of the one and of the other structure."""
+    return isinstance(value, tuple) and len(value) == 2 and is_row(one, value[0]) and is_row(other, value[1])
 
 
 def _is_held(one, other, level, lower):
@@ -56,12 +82,10 @@ def _is_held(one, other, level, lower):
     for row, goal in lower:
         if row and row[-1] != NONE:
             pair = (row[:-1], goal[:-1])
-            taken.setdefault(pair, {})[row[-1]] = True
-            replied.setdefault(pair, {})[goal[-1]] = True
-    for pair in level:
-        if len(taken.get(pair, {})) < one.size or len(replied.get(pair, {})) < other.size:
-            return False
-    return True
+            taken[pair] = taken.get(pair, 0) | 1 << row[-1]
+            replied[pair] = replied.get(pair, 0) | 1 << goal[-1]
+    every = ((1 << one.size) - 1, (1 << other.size) - 1)
+    return not [pair for pair in level if (taken.get(pair, 0), replied.get(pair, 0)) != every]
 
 
 def book_answer(one, row, other, goal, depth):
@@ -78,25 +102,24 @@ def _book(numbering, row, goal, depth):
     """The levels for two rows of one kind of the depth."""
     levels = [((row, goal),)]
     for rounds in range(depth):
-        found = []
+        # Few rows have many goals: sorted one by one they take less than all pairs would.
+        found = {}
         for pair in levels[0]:
-            found.extend(_pairs_behind(numbering, pair, depth - rounds - 1))
-        levels = [ascending(found), *levels]
+            _put_behind(numbering, pair, depth - rounds - 1, found)
+        levels = [tuple([(one, other) for one in sorted(found) for other in sorted(found[one])]), *levels]
     return tuple(levels)
 
 
-def _pairs_behind(numbering, pair, depth):
-    """Each element of each side behind the row, with a reply that keeps the kinds of the depth."""
-    spots = [numbering.spots_behind((side, pair[side])) for side in (0, 1)]
-    found = []
-    for side in (0, 1):
-        replies = {}
-        for spot in spots[1 - side]:
-            replies.setdefault(numbering.number(spot, depth), spot[1])
-        for spot in spots[side]:
-            answer = replies[numbering.number(spot, depth)]
-            found.append((spot[1], answer) if side == 0 else (answer, spot[1]))
-    return found
+def _put_behind(numbering, pair, depth, found):
+    """Put each element of each side behind the row, with a reply that keeps the kinds of the depth."""
+    row, goal = pair
+    spots = ((0, row), (1, goal))
+    replies = numbering.firsts_behind(spots[1], depth)
+    for member, key in enumerate(numbering.keys_behind(spots[0], depth)):
+        found.setdefault(row + (member,), {})[goal + (replies[key],)] = True
+    replies = numbering.firsts_behind(spots[0], depth)
+    for member, key in enumerate(numbering.keys_behind(spots[1], depth)):
+        found.setdefault(row + (replies[key],), {})[goal + (member,)] = True
 
 
 def _tree(numbering, row, goal, depth):
@@ -126,24 +149,29 @@ def is_book_answer(one, row, other, goal, depth, value):
     if value[0] == "book":
         levels = value[1]
         return _holds_book(one, other, levels) and len(levels) == depth + 1 and (row, goal) in levels[-1]
-    return value[0] == "tree" and _is_tree((one, other), (row, goal), depth, value[1])
+    if value[0] != "tree":
+        return False
+    sides = (one.codes(), other.codes())
+    return _is_tree((one.size, other.size), sides, (row, goal), depth, value[1], has_equal_atoms(sides, row, goal))
 
 
-def _is_tree(sides, rows, rounds, value):
-    """Whether the value is a tree for the rows, one of each side, within so many rounds."""
+def _is_tree(sizes, sides, rows, rounds, value, is_equal):
+    """Whether the value is a tree within so many rounds for two rows, whose atoms are equal or not."""
     if not isinstance(value, tuple):
         return False
-    if atom_of(sides[0], rows[0]) != atom_of(sides[1], rows[1]):
+    if not is_equal:
         return value == ()
     if len(value) != 3 or rounds == 0 or not is_index(value[0], 2):
         return False
     side, taken, replies = value
-    if not is_index(taken, sides[side].size) or not isinstance(replies, tuple):
+    if not is_index(taken, sizes[side]) or not isinstance(replies, tuple):
         return False
-    if len(replies) != sides[1 - side].size:
+    if len(replies) != sizes[1 - side]:
         return False
     for answer, tree in enumerate(replies):
-        if not _is_tree(sides, _with_both(rows, side, taken, answer), rounds - 1, tree):
+        longer = _with_both(rows, side, taken, answer)
+        is_kept = told_of_last(sides[0], longer[0]) == told_of_last(sides[1], longer[1])
+        if not _is_tree(sizes, sides, longer, rounds - 1, tree, is_kept):
             return False
     return True
 
@@ -165,7 +193,7 @@ def reply(one, other, levels, rounds, pair, side, element):
     check_index(side, 2)
     sides = (one, other)
     check_index(element, sides[side].size)
-    lower = levels[rounds - 1]
+    lower = {longer: True for longer in levels[rounds - 1]}
     answers = [answer for answer in range(sides[1 - side].size) if _with_both(pair, side, element, answer) in lower]
     return answers[0]
 

@@ -3,9 +3,10 @@
 from wholebyparts.checks import check_index, check_members, check_number
 from wholebyparts.errors import InvalidOperation
 from wholebyparts.kinds.atoms import atom_of
+from wholebyparts.kinds.forms import has_form
 from wholebyparts.kinds.numbering import Numbering
 from wholebyparts.kinds.pairs import check_depth, check_limit, check_limits, check_rows, check_side
-from wholebyparts.kinds.trees import KindLevels, check_kind, cut_to, depth_told, has_form, kind_of, with_place_out
+from wholebyparts.kinds.trees import KindLevels, check_kind, cut_to, depth_told, kind_of, with_place_out
 from wholebyparts.part.structures import check_signature
 from wholebyparts.say.formulas import check_formula, quantified
 

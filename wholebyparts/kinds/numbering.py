@@ -1,6 +1,7 @@
 """Numbers in the place of kinds: kinds are large, and compared again and again."""
 
 from wholebyparts.kinds.atoms import atom_of
+from wholebyparts.kinds.codes import told_behind, told_of_last
 
 
 class Numbering:
@@ -11,23 +12,49 @@ class Numbering:
 
     def __init__(self, one, other):
         self.sides = (one, other)
+        self.side_codes = (one.codes(), one.codes() if other == one else other.codes())
         self.numbers = {}
         self.known = {}
 
     def number(self, spot, depth):
         """The number of the row of the depth."""
-        if (spot, depth) not in self.known:
-            self.known[(spot, depth)] = self.reckoned(spot, depth)
-        return self.known[(spot, depth)]
+        key = (spot, depth)
+        if key not in self.known:
+            self.known[key] = self.reckoned(spot, depth)
+        return self.known[key]
 
     def reckoned(self, spot, depth):
         """The number, reckoned out of those behind: what a none behind adds hangs on these alone."""
-        behind = ()
-        if depth > 0:
-            behind = tuple(sorted({self.number(longer, depth - 1) for longer in self.spots_behind(spot)}))
         side, row = spot
-        key = (depth, atom_of(self.sides[side], row), behind)
-        return self.numbers.setdefault(key, len(self.numbers))
+        if depth == 0:
+            if not row:
+                return 0
+            key = (0, self.number((side, row[:-1]), 0), told_of_last(self.side_codes[side], row))
+        else:
+            key = (depth, self.number(spot, 0), tuple(sorted(set(self.keys_behind(spot, depth - 1)))))
+        return self.numbers.setdefault(key, len(self.numbers) + 1)
+
+    def keys_behind(self, spot, depth):
+        """For each element behind the row a key: behind rows of one atom, keys are equal for one kind of the depth."""
+        key = (spot, depth, "behind")
+        if key not in self.known:
+            side, row = spot
+            if depth == 0:
+                told = told_behind(self.side_codes[side], row)
+            else:
+                told = [self.number(longer, depth) for longer in self.spots_behind(spot)]
+            self.known[key] = told
+        return self.known[key]
+
+    def firsts_behind(self, spot, depth):
+        """For each key behind the row the first element that has it."""
+        key = (spot, depth, "firsts")
+        if key not in self.known:
+            found = {}
+            for member, one in enumerate(self.keys_behind(spot, depth)):
+                found.setdefault(one, member)
+            self.known[key] = found
+        return self.known[key]
 
     def spots_behind(self, spot):
         """The spots of the rows with each element behind the row, ascending."""
@@ -55,9 +82,12 @@ class Numbering:
         return None
 
     def lone_spot(self, spot, goal, depth):
-        """The first spot behind the row whose kind, one depth less, none behind the goal has; None without any."""
-        met = {self.number(longer, depth - 1): True for longer in self.spots_behind(goal)}
-        for longer in self.spots_behind(spot):
-            if self.number(longer, depth - 1) not in met:
+        """The first spot behind the row whose kind, one depth less, none behind the goal has; None without any.
+
+        The row and the goal have equal atoms.
+        """
+        met = {key: True for key in self.keys_behind(goal, depth - 1)}
+        for longer, key in zip(self.spots_behind(spot), self.keys_behind(spot, depth - 1)):
+            if key not in met:
                 return longer
         return None

@@ -1,19 +1,39 @@
 """Kinds as they are built: of an atom, and of kinds of one place more."""
 
-from wholebyparts.checks import ascending, is_ascending
+from wholebyparts.checks import ascending
 from wholebyparts.errors import InvalidKind
-from wholebyparts.kinds.atoms import atom_of, atom_tells, atom_with_none, atom_without, is_atom
+from wholebyparts.kinds.atoms import atom_of, atom_tells, atom_with_none, atom_without
+from wholebyparts.kinds.forms import has_form
+from wholebyparts.kinds.numbering import Numbering
 from wholebyparts.part.rows import NONE
 from wholebyparts.say.formulas import most_depth
 from wholebyparts.say.levels import RowLevels
 
 
+class Trees:
+    """The kinds of the rows of a structure: rows of one kind of a depth have one number, and the kind is made once."""
+
+    def __init__(self, structure):
+        self.structure = structure
+        self.numbering = Numbering(structure, structure)
+        self.known = {}
+
+    def tree(self, row, depth):
+        """The kind of the row of the depth."""
+        key = (depth, self.numbering.number((0, row), depth))
+        if key not in self.known:
+            members = []
+            if depth > 0:
+                firsts = self.numbering.firsts_behind((0, row), depth - 1)
+                behind = [row + (member,) for member in [NONE, *list(firsts.values())]]
+                members = sorted([self.tree(longer, depth - 1) for longer in behind])
+            self.known[key] = (atom_of(self.structure, row), tuple(members))
+        return self.known[key]
+
+
 def kind_of(structure, row, depth):
     """The kind of the row of the depth."""
-    if depth == 0:
-        return (atom_of(structure, row), ())
-    behind = [row + (member,) for member in range(NONE, structure.size)]
-    return (atom_of(structure, row), ascending([kind_of(structure, longer, depth - 1) for longer in behind]))
+    return Trees(structure).tree(row, depth)
 
 
 def depth_told(tree):
@@ -23,34 +43,6 @@ def depth_told(tree):
         tree = tree[1][0]
         depth += 1
     return depth
-
-
-def has_form(signature, places, depth, value):
-    """Whether the value is by its form a kind of so many places and of the depth."""
-    if not isinstance(value, tuple) or len(value) != 2:
-        return False
-    atom, members = value
-    if not is_atom(signature, places, atom) or not isinstance(members, tuple):
-        return False
-    if depth == 0:
-        return len(members) == 0
-    for member in members:
-        if not has_form(signature, places + 1, depth - 1, member):
-            return False
-        if atom_without(member[0], places + 1, places) != atom:
-            return False
-    return is_ascending(members) and _has_right_lasts(places, atom, members)
-
-
-def _has_right_lasts(places, atom, members):
-    """Whether one member has none last, and for each place that is not none some member is equal to it there."""
-    if len([member for member in members if is_last_none(places, member)]) != 1:
-        return False
-    for place in range(places):
-        found = [member for member in members if (place, places) in member[0][1]]
-        if place not in atom[0] and not found:
-            return False
-    return True
 
 
 def is_last_none(places, member):

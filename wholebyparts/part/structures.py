@@ -44,6 +44,7 @@ class Structure:
         self._marked = [{member: True for member in mark} for mark in marks]
         self._linked = [{pair: True for pair in link} for link in links]
         self._lines = {}
+        self._codes = None
 
     def __eq__(self, other):
         if not isinstance(other, Structure):
@@ -80,6 +81,30 @@ class Structure:
                     rows[a][b] = "1"
             self._lines[(link, is_turned)] = ["".join(row) for row in rows]
         return self._lines[(link, is_turned)][member]
+
+
+    def codes(self):
+        """What the marks and links tell of each element, and of each two: equal codes tell alike.
+
+        The second list has for a member a list of one code for each element; its last list is that of none, which
+        is the index -1 of it.
+        """
+        if self._codes is None:
+            singles = [0] * self.size
+            pairs = [[0] * self.size for _ in range(self.size + 1)]
+            for member in range(self.size):
+                pairs[member][member] = 1
+            for index, mark in enumerate(self.marks):
+                for member in mark:
+                    singles[member] += 1 << index
+            for index, link in enumerate(self.links):
+                for a, b in link:
+                    pairs[a][b] += 2 << 2 * index
+                    pairs[b][a] += 4 << 2 * index
+                    if a == b:
+                        singles[a] += 4 << index
+            self._codes = (singles, pairs)
+        return self._codes
 
 
 def is_signature(value):

@@ -1,0 +1,30 @@
+"""Rows by codes: what is told of a member is its own code, and those of it beside each member ahead.
+
+Rows have equal atoms exactly if the same is told of all their members, one by one. The codes are those of the
+structures at hand, as `Structure.codes` gives them.
+"""
+
+from wholebyparts.part.rows import NONE
+
+
+def told_of_last(codes, row):
+    """What is told of the last member of a row; nothing of none, beside which all codes are alike."""
+    singles, pairs = codes
+    last = row[-1]
+    if last == NONE:
+        return ()
+    return (singles[last], *[pairs[member][last] for member in row[:-1]])
+
+
+def told_behind(codes, row):
+    """The list of what is told of each element behind the row."""
+    singles, pairs = codes
+    return list(zip(singles, *[pairs[member] for member in row]))
+
+
+def has_equal_atoms(sides, row, goal):
+    """Whether rows of both sides, equally long, have equal atoms."""
+    for many in range(1, len(row) + 1):
+        if told_of_last(sides[0], row[:many]) != told_of_last(sides[1], goal[:many]):
+            return False
+    return True
