@@ -144,6 +144,25 @@ class Answers(unittest.TestCase):
         answer = book_answer(wide, (), renamed(wide, tuple(range(59, -1, -1))), (), 2)
         self.assertIs(is_book_answer(wide, (), renamed(wide, tuple(range(59, -1, -1))), (), 2, answer), True)
 
+    def test_long_order(self):
+        order = Structure(15, (), (tuple((a, b) for a in range(15) for b in range(a + 1, 15)),))
+        answer = book_answer(order, (), order, (), 3)
+        levels = answer[1]
+        self.assertEqual((answer[0], len(levels), levels[3]), ("book", 4, (((), ()),)))
+        self.assertIs(is_book(order, order, levels), True)
+        self.assertIs(is_book_answer(order, (), order, (), 3, answer), True)
+        for pair in levels[1][::97]:
+            for side, taken in product((0, 1), (0, 7, 14)):
+                replied = reply(order, order, levels, 1, pair, side, taken)
+                both = (taken, replied) if side == 0 else (replied, taken)
+                longer = (pair[0] + (both[0],), pair[1] + (both[1],))
+                self.assertIn(longer, levels[0])
+        for index in (0, 5000, len(levels[0]) - 1):
+            row, goal = levels[0][index]
+            for other in (goal[:2], (*goal[:2], 15), (*goal[:2], True), (*goal[:2], None), list(goal), (*goal, 0)):
+                bent = levels[0][:index] + ((row, other),) + levels[0][index + 1:]
+                self.assertIs(is_book(order, order, (bent, *levels[1:])), False)
+
     def test_kinds_limit(self):
         fifteen, sixteen, marked = Structure(15, (), ()), Structure(16, (), ()), Structure(16, ((),), ())
         for one, other in ((sixteen, fifteen), (fifteen, sixteen)):

@@ -115,6 +115,40 @@ class Reckoned(unittest.TestCase):
             answers[found] += 1
         self.assertGreater(min(answers.values()), 20)
 
+    def test_two_marks_and_links(self):
+        chooser = Chooser(24)
+        answers = {True: 0, False: 0}
+        for index in range(300):
+            one = chooser.structure(chooser.number(4), (2, 2) if index % 2 else (1, 2))
+            many = chooser.number(4)
+            row = chooser.row(one, many)
+            names = chooser.order(one.size)
+            other, goal = renamed(one, names), tuple(names[member] if member >= 0 else -1 for member in row)
+            if index % 3:
+                other, goal = chooser.structure(one.size, one.signature), chooser.row(one, many)
+            depth = chooser.number(min(2, 4 - many) + 1)
+            found = same_kind(one, row, other, goal, depth)
+            self.assertIs(found, plain_kind(one, row, depth) == plain_kind(other, goal, depth))
+            self.assertEqual(kind(one, row, depth), plain_kind(one, row, depth))
+            self.assertIs(is_kind(one.signature, many, depth, kind(one, row, depth)), True)
+            answers[found] += 1
+        self.assertGreater(min(answers.values()), 20)
+
+    def test_long_orders(self):
+        orders = {size: Structure(size, (), (tuple((a, b) for a in range(size) for b in range(a + 1, size)),))
+                  for size in (4, 6, 7, 14, 15)}
+        self.assertIs(same_kind(orders[15], (), orders[15], (), 3), True)
+        self.assertIs(same_kind(orders[15], (), orders[14], (), 3), True)
+        self.assertIs(same_kind(orders[15], (), orders[7], (), 3), True)
+        self.assertIs(same_kind(orders[15], (), orders[6], (), 3), False)
+        self.assertIs(same_kind(orders[15], (7,), orders[15], (8,), 3), False)
+        self.assertEqual(len(kind(orders[15], (), 3)[1]), len(kind(orders[7], (), 3)[1]))
+        told = kind(orders[4], (0,), 3)
+        self.assertEqual(told, plain_kind(orders[4], (0,), 3))
+        self.assertIs(is_kind((0, 1), 1, 3, told), True)
+        self.assertIs(is_kind((0, 1), 1, 2, told), False)
+        self.assertIs(is_kind((0, 1), 1, 3, kind(orders[4], (0,), 2)), False)
+
     def test_named_anew(self):
         chooser = Chooser(23)
         for _ in range(30):

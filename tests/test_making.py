@@ -15,6 +15,9 @@ ALL, NOTHING = Reader(2, ((0, 0),), (0,)), Reader(2, ((0, 0),), ())
 # Some states of it are never met, others are alike.
 LOOSE = Reader(2, ((1, 2), (2, 1), (1, 2), (3, 0)), (1, 2, 3))
 SPECIAL = [EVEN, ENDS, ALL, NOTHING, LOOSE, Reader(2, ((1, 0), (1, 1)), (0,)), Reader(2, ((1, 1), (2, 2), (2, 2)), (1,))]
+# From the state that is met first behind 0 nothing is taken, or everything.
+SPECIAL += [Reader(2, ((1, 2), (1, 1), (2, 0)), (2,)), Reader(2, ((1, 2), (1, 1), (1, 3), (3, 2)), (3,)),
+            Reader(2, ((1, 2), (1, 1), (2, 0)), (1, 2)), Reader(2, ((1, 2), (1, 1), (1, 3), (3, 2)), (0, 1))]
 
 
 def pairs_of_readers(seed):

@@ -45,6 +45,35 @@ class Truth(unittest.TestCase):
             self.assertIs(holds(structure, free, opposite(signature, free, formula), row),
                           not plainly_holds(structure, formula, row))
 
+    def test_atoms_within_quantifiers(self):
+        chooser = Chooser(12)
+        structures = [chooser.structure(size, (1, 1)) for size in (0, 1, 2, 3)]
+        for structure, free, depth in product(structures, range(3), range(1, 4)):
+            if free + depth > 4 or (depth == 3 and structure.size == 3):
+                continue
+            rows = rows_with(structure, free)[::2 if free > 1 else 1]
+            for words, atom in product(product(("some", "all"), repeat=depth), atoms_about((1, 1), free + depth)):
+                formula = atom
+                for word in words:
+                    formula = (word, formula)
+                for row in rows:
+                    self.assertIs(holds(structure, free, formula, row), plainly_holds(structure, formula, row))
+                told = [row for row in product(range(structure.size), repeat=free) if plainly_holds(structure, formula, row)]
+                self.assertEqual(rows_that(structure, free, formula), tuple(told))
+
+    def test_many_rows_at_once(self):
+        bare = Structure(36, (), ())
+        self.assertIs(holds(bare, 0, some(3, ("not", ("same", 0, 2))), ()), True)
+        self.assertIs(holds(bare, 0, ("not", some(3, ("not", ("same", 0, 2)))), ()), False)
+        self.assertIs(holds(bare, 0, ("all", ("some", ("all", ("or", ("same", 0, 1), ("same", 1, 2))))), ()), True)
+        self.assertIs(holds(bare, 0, ("some", ("all", ("all", ("or", ("same", 0, 1), ("same", 1, 2))))), ()), False)
+        self.assertEqual(rows_that(bare, 1, some(2, ("same", 0, 1))), tuple((a,) for a in range(36)))
+        self.assertEqual(rows_that(bare, 1, ("all", ("some", ("not", ("same", 0, 1))))), ())
+        line = Structure(36, ((0, 35),), (tuple((a, a + 1) for a in range(35)),))
+        after = ("some", ("some", ("and", ("and", ("link", 0, 0, 1), ("link", 0, 1, 2)), ("mark", 0, 2))))
+        self.assertEqual(rows_that(line, 1, after), ((33,),))
+        self.assertEqual(rows_that(line, 1, ("some", ("and", ("link", 0, 1, 0), ("mark", 0, 1)))), ((1,),))
+
     def test_without_members(self):
         for formula in (TRUE, ("not", TRUE), ("none", 0), ("mark", 0, 0)):
             self.assertIs(holds(EMPTY, 0, ("some", formula), ()), False)

@@ -19,7 +19,8 @@ def told_of_last(codes, row):
 def told_behind(codes, row):
     """The list of what is told of each element behind the row."""
     singles, pairs = codes
-    return list(zip(singles, *[pairs[member] for member in row]))
+    beside = [pairs[member] for member in row]
+    return list(zip(singles, *beside))
 
 
 def has_equal_atoms(sides, row, goal):
