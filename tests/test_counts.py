@@ -22,7 +22,7 @@ def free_readers():
     """Readers for which the sequence does not matter."""
     found = [EVEN, ALL, NOTHING, GRID, cycle(5, (1, 2), 3), line(4, (1, 3), 2), *some_readers(101, 30, 1, 7)]
     parts = [Reader(2, tuple((state, goal) for state, goal in enumerate(column)), accepting)
-             for column, accepting in (((1, 2, 1), (1,)), ((1, 2, 3, 4, 2), (0, 3)), ((1, 1), (0,)))]
+             for column, accepting in (((1, 2, 1), (1,)), ((1, 2, 3, 4, 2), (0, 1, 3)), ((1, 1), (0,)))]
     turned = [Reader(2, tuple(step[::-1] for step in reader.steps), reader.accepting) for reader in parts]
     return found + parts + [both(one, other) for one in parts for other in turned]
 

@@ -201,6 +201,22 @@ class Books(unittest.TestCase):
                 pair = ((-1,) * members, (-1,) * members)
                 self.assertIs(is_book(none, none, ((),) * rounds + ((pair,),)), members + rounds <= 4)
 
+    def test_members_out_of_bounds(self):
+        # Nothing is told of these elements: each pair of equal rows, or of rows of unlike ones, is a level.
+        one, other = Structure(3, (), ()), Structure(4, (), ())
+        for row in ((0,), (2, 1), (0, 2, -1), (1, 1, 1, 0), (2, 0, 2, 1)):
+            self.assertIs(is_book(one, other, (((row, row),),)), True)
+            for place in range(len(row)):
+                for wrong in (-2, -3, -4, 3, 4, 5, BIG, -BIG, True, False, None, "0", (0,), [0]):
+                    bent = row[:place] + (wrong,) + row[place + 1:]
+                    self.assertIs(is_book(one, other, (((bent, row),),)), False)
+                    self.assertIs(is_book(one, other, (((bent, bent),),)), False)
+                    is_right = wrong == 3 and plain_atom(one, row) == plain_atom(other, bent)
+                    self.assertIs(is_book(one, other, (((row, bent),),)), is_right)
+            for bent in (row[:-1], (*row, 0), list(row), (row,), None, 0):
+                self.assertIs(is_book(one, other, (((bent, row),),)), False)
+                self.assertIs(is_book(one, other, (((row, bent),),)), False)
+
     def test_near_ones(self):
         first, last = BOOK
         near = [

@@ -198,6 +198,37 @@ class Form(unittest.TestCase):
             counted += value in right
         self.assertEqual(counted, len(right))
 
+    def test_all_sequences_of_numbers_and_pairs(self):
+        right = self.atoms_at((1, 1), 2)
+
+        def check(told, *value):
+            is_flat = not any(type(number) is bool for number in told)
+            self.assertIs(is_kind((1, 1), 2, 0, (value, ())), is_flat and value in right, value)
+        for lot in [lot for many in range(4) for lot in product((-2, -1, 0, 1, 2, True, False), repeat=many)]:
+            check(lot, lot, (), ((),), ((),))
+            check(lot, (), (), (lot,), ((),))
+        pairs = list(product((-1, 0, 1, 2), repeat=2)) + [(0, True), (False, 1), (True, 1), (-1, 4), (0, -2), (3, -3), (0, 3)]
+        for lot in [lot for many in range(3) for lot in product(pairs, repeat=many)]:
+            told = [number for pair in lot for number in pair]
+            check(told, (), lot, ((),), ((),))
+            check(told, (), (), ((),), (lot,))
+
+    def test_atoms_of_unlike_forms(self):
+        good = kind(LINE, (0, 1), 0)[0]
+        self.assertIs(is_kind((1, 1), 2, 0, (good, ())), True)
+        for index in range(4):
+            for wrong in (*WRONG, 0, "0", [good[index]], (good[index], good[index]), list(good[index]), (good[index],) * 3):
+                value = good[:index] + (wrong,) + good[index + 1:]
+                if value != good and wrong != ():
+                    self.assertIs(is_kind((1, 1), 2, 0, (value, ())), False)
+        for index in (2, 3):
+            for wrong in (*WRONG, 0, [], [0], [(0, 1)], ((0, 1, 1),), ((0,),), (None,), ([0, 1],)):
+                value = good[:index] + ((wrong,),) + good[index + 1:]
+                if wrong != ():
+                    self.assertIs(is_kind((1, 1), 2, 0, (value, ())), False, (index, wrong))
+        for value in (good[:3], (*good, ()), list(good), None):
+            self.assertIs(is_kind((1, 1), 2, 0, (value, ())), False)
+
     def test_all_classes_of_four_places(self):
         pairs = [(i, j) for i in range(4) for j in range(i + 1, 4)]
         right = self.atoms_at((0, 0), 4)

@@ -73,7 +73,7 @@ class Data(unittest.TestCase):
             self.assertEqual(shape_fault((1, 1), EVERY, (ONE_PLACE, wrong), (None,)), ("mark", 1))
             self.assertEqual(shape_fault((1, 1), EVERY, (wrong, None), ()), ("mark", 0))
             refuses(self, InvalidShape, None, Shape, (1, 1), EVERY, (wrong,), ())
-        for wrong in no_rules:
+        for wrong in [*no_rules, ((("same", 0, 2),), TWO_PLACES[1])]:
             self.assertEqual(shape_fault((1, 1), EVERY, (ONE_PLACE,), (TWO_PLACES, wrong)), ("link", 1))
             self.assertEqual(shape_fault((1, 1), EVERY, (), (wrong, None)), ("link", 0))
             refuses(self, InvalidShape, None, Shape, (1, 1), EVERY, (), (wrong,))

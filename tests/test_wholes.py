@@ -145,6 +145,21 @@ class Asked(unittest.TestCase):
                 else:
                     self.assertIs(holds_in(shape, parts, formula), plainly_holds(told, formula, ()))
 
+    def test_both_ways_of_a_link(self):
+        seen = set()
+        for shape, parts in some_wholes(137, 120, 2, 4):
+            told = plain_whole(shape, parts)
+            for link, (outer, inner) in product(range(len(shape.links)), (("some", "all"), ("all", "some"))):
+                for x, y in ((0, 1), (1, 0), (0, 0), (1, 1)):
+                    atom = ("link", link, x, y)
+                    within = ("or", atom, ("same", 0, 1)) if inner == "all" else ("and", atom, ("not", ("same", 0, 1)))
+                    formula = (outer, (inner, within))
+                    if told.size <= 64:
+                        found = holds_in(shape, parts, formula)
+                        self.assertIs(found, plainly_holds(told, formula, ()))
+                        seen.add((outer, x, y, found))
+        self.assertEqual(len(seen), 16)
+
     def test_large_wholes(self):
         # 4,096 elements, of which just the last one is marked by both parts.
         last = Structure(60, ((59,),), ((),))
