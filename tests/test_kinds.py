@@ -134,6 +134,18 @@ class Reckoned(unittest.TestCase):
             answers[found] += 1
         self.assertGreater(min(answers.values()), 20)
 
+    def test_all_small_structures(self):
+        links = [one for size in range(3) for one in structures_of(size, (0, 1))]
+        both = [one for size in range(2) for one in structures_of(size, (2, 2))] + structures_of(2, (0, 2))[::23]
+        for structures in (links, [one for one in both if one.signature == (0, 2)], [one for one in both if one.signature[0]]):
+            for many, depth in ((0, 1), (0, 2), (1, 0), (1, 1), (2, 1)):
+                spots = [(one, row) for one in structures for row in rows_with(one, many)][::1 if many < 2 else 4]
+                plain = [plain_kind(one, row, depth) for one, row in spots]
+                for (one, row), first in zip(spots, plain):
+                    self.assertEqual(kind(one, row, depth), first)
+                    for (other, goal), second in zip(spots, plain):
+                        self.assertIs(same_kind(one, row, other, goal, depth), first == second)
+
     def test_long_orders(self):
         orders = {size: Structure(size, (), (tuple((a, b) for a in range(size) for b in range(a + 1, size)),))
                   for size in (4, 6, 7, 14, 15)}

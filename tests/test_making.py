@@ -3,8 +3,8 @@
 import unittest
 from itertools import product
 
-from tests.helpers import NO_READERS, NO_WORDS, WRONG, accepts_all, all_words, check_takes, cycle, is_plainly_least, line
-from tests.helpers import lots_of, plain_lots, plainly_takes, refuses, refuses_each, some_readers
+from tests.helpers import NO_READERS, NO_WORDS, WRONG, Chooser, accepts_all, all_words, check_takes, cycle, is_plainly_least
+from tests.helpers import line, lots_of, plain_lots, plainly_takes, refuses, refuses_each, some_readers
 from wholebyparts.errors import InvalidOperation, InvalidReader, TooMany
 from wholebyparts.read.making import alike_answer, backward, behind, both, either, guessed, is_alike_answer, least, led
 from wholebyparts.read.making import opposite
@@ -129,6 +129,22 @@ class Bounds(unittest.TestCase):
         refuses(self, TooMany, 512, guessed, from_the_end(12), lots)
         self.assertEqual(behind(line(256, (255,)), line(257, (256,))).states, 512)
         refuses(self, TooMany, 512, behind, line(257, (256,)), line(257, (256,)))
+
+    def test_many_pairs(self):
+        chooser = Chooser(80)
+        for letters in (1, 2, 64):
+            one, other = chooser.reader(letters, 512), chooser.reader(letters, 512)
+            for call in (both, either):
+                if letters > 1:
+                    refuses(self, TooMany, 512, call, one, other)
+            self.assertTrue(both(one, one) == either(one, one) == least(one))
+        # Many pairs of states, but few lots of alike ones.
+        first, second = cycle(480, (0, 240), 3), cycle(510, (0,), 3)
+        self.assertTrue(both(first, Reader(3, ((0, 0, 0),), (0,))) == cycle(240, (0,), 3))
+        self.assertTrue(both(cycle(480), cycle(510, (1,))) == Reader(1, ((0,),), ()))
+        self.assertTrue(either(opposite(cycle(480)), opposite(cycle(510, (1,)))) == Reader(1, ((0,),), (0,)))
+        refuses(self, TooMany, 512, both, first, second)
+        refuses(self, TooMany, 512, either, first, second)
 
     def test_backward_of_many_states(self):
         # Backward, the letter 1 stands at a place from the end.

@@ -2,7 +2,8 @@
 
 from wholebyparts.checks import are_indices, are_pairs, is_ascending, is_index_tuple
 from wholebyparts.errors import InvalidOperation
-from wholebyparts.read.drafts import both_draft, draft_of, either_draft, explored, guessed_draft
+from wholebyparts.read.apart import check_apart
+from wholebyparts.read.drafts import both_draft, draft_of, explored, guessed_draft
 from wholebyparts.read.drafts import joined_bits, joined_rows, led_draft, opposite_draft, told_reader
 from wholebyparts.read.parting import pairs_met, parting_word
 from wholebyparts.read.readers import MOST_LETTERS, MOST_STATES, check_reader, is_word, state_from
@@ -18,13 +19,19 @@ def _check_both(one, other):
 def both(one, other):
     """The least reader of what both take."""
     _check_both(one, other)
-    return told_reader(both_draft(draft_of(one), draft_of(other)))
+    return told_reader(_both(draft_of(one), draft_of(other)))
+
+
+def _both(one, other):
+    """The draft of what both drafts take."""
+    check_apart(one, other, MOST_STATES)
+    return both_draft(one, other)
 
 
 def either(one, other):
     """The least reader of what at least one of both takes."""
     _check_both(one, other)
-    return told_reader(either_draft(draft_of(one), draft_of(other)))
+    return told_reader(opposite_draft(_both(opposite_draft(draft_of(one)), opposite_draft(draft_of(other)))))
 
 
 def opposite(reader):
