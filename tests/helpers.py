@@ -32,7 +32,7 @@ WRONG = (
     (None,), ("",), (True, True), ((0,), [0]), ([],), ({},), (BIG,), (-BIG, BIG), (1, 2, 3, 4, 5, 6, 7, 8),
     DEEP_TUPLE, DEEP_LIST, DEEP_DICT, DEEP_NOT, DOUBLED, DOUBLED_AND, DOUBLED_SOME, ((), (), ()), ("not",),
     Structure(0, (), ()), Structure(2, ((0,),), (((0, 1),),)), Reader(1, ((0,),), (0,)),
-    (Structure(1, (), ()),), (Structure(1, (), ()), Reader(1, ((0,),), ())),
+    (Structure(1, (), ()),), (Structure(1, (), ()), Reader(1, ((0,),), ())), sum_shape((1, 1)), (sum_shape((0, 0)),),
 )
 
 
@@ -46,7 +46,7 @@ def without_some(values, *kinds):
 
 NO_STRUCTURES = [*without_some(WRONG, Structure), ()]
 NO_READERS = [*without_some(WRONG, Reader), ()]
-NO_SHAPES = [*WRONG, (), ((0, 0), ((), Reader(1, ((0,),), (0,))), (), ())]
+NO_SHAPES = [*without_some(WRONG, Shape), (), ((0, 0), ((), Reader(1, ((0,),), (0,))), (), ())]
 NO_NUMBERS = [*WRONG, -1, (), (0,), "0"]
 NO_ROWS = [*WRONG, (-2,), (True,), (False,), (60,), (0, 0, 0, 0, 0), [0], (-1, None), ((0,),), ("0",)]
 NO_WORDS = [*WRONG, (2,), (0, 2), (-1,), (True,), (0, False), [0], "01", (0,) * 2001, (0, None), ((0,),)]

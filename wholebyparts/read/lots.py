@@ -6,12 +6,11 @@ from wholebyparts.errors import TooMany
 class Parting:
     """States in lots, which are parted as long as some letter leads alike states to unlike ones.
 
-    `columns` has for each letter the next state of each state. Of both halves of a lot just the lesser one must
-    still be asked who leads into it, as long as the whole lot has been asked.
+    Columns have for each letter the next state of each state. Of both halves of a lot just the lesser one must still
+    be asked who leads into it, if the whole lot has been.
     """
 
     def __init__(self, columns, accepting):
-        self.columns = columns
         self.sources = [_sources(column) for column in columns]
         self.where = numbered(accepting)[0]
         self.lots = [{} for _ in range(max(self.where) + 1)]

@@ -106,9 +106,9 @@ def _linked_rows(reader):
     A word that is long beside the reader is read by these in one go, as what is no letter is met on the way.
     """
     rows = [{None: state} for state in range(reader.states)]
-    for row, step in zip(rows, reader.steps):
+    for state, step in enumerate(reader.steps):
         for letter, goal in enumerate(step):
-            row[letter] = rows[goal]
+            rows[state][letter] = rows[goal]
     return rows
 
 
