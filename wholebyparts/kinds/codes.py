@@ -29,3 +29,18 @@ def has_equal_atoms(sides, row, goal):
         if told_of_last(sides[0], row[:many]) != told_of_last(sides[1], goal[:many]):
             return False
     return True
+
+
+def atom_by_codes(codes, signature, row):
+    """The atom of a row of a structure with the codes and the signature."""
+    singles, pairs = codes
+    there = [place for place, member in enumerate(row) if member != NONE]
+    told = [(i, j, pairs[row[i]][row[j]]) for i in there for j in there]
+    nones, same = (), ()
+    if len(there) < len(row):
+        nones = tuple([place for place, member in enumerate(row) if member == NONE])
+    if len(there) > 1:
+        same = tuple([(i, j) for i, j, code in told if code & 1 and i < j])
+    marks = [tuple([i for i in there if singles[row[i]] >> mark & 1]) for mark in range(signature[0])]
+    links = [tuple([(i, j) for i, j, code in told if code & 2 << 2 * link]) for link in range(signature[1])]
+    return (nones, same, tuple(marks), tuple(links))

@@ -2,7 +2,8 @@
 
 from wholebyparts.checks import ascending
 from wholebyparts.errors import InvalidKind
-from wholebyparts.kinds.atoms import atom_of, atom_tells, atom_with_none, atom_without
+from wholebyparts.kinds.atoms import atom_tells, atom_with_none, atom_without
+from wholebyparts.kinds.codes import atom_by_codes
 from wholebyparts.kinds.forms import has_form
 from wholebyparts.kinds.numbering import Numbering
 from wholebyparts.part.rows import NONE
@@ -27,7 +28,8 @@ class Trees:
                 firsts = self.numbering.firsts_behind((0, row), depth - 1)
                 behind = [row + (member,) for member in [NONE, *list(firsts.values())]]
                 members = sorted([self.tree(longer, depth - 1) for longer in behind])
-            self.known[key] = (atom_of(self.structure, row), tuple(members))
+            atom = atom_by_codes(self.structure.codes(), self.structure.signature, row)
+            self.known[key] = (atom, tuple(members))
         return self.known[key]
 
 
