@@ -61,14 +61,11 @@ class Elements(unittest.TestCase):
 
     def test_rows_limit(self):
         every = some_shape((0, 0))
-        for sizes in ((19999 // 61, 60), (60,) * 3, (27, 26, 27), (4,) * 5 + (6,)):
-            parts = tuple(bare(min(size, 60)) for size in sizes)
-            rows = 1
-            for part in parts:
-                rows *= part.size + 1
+        for sizes in ((60,) * 3, (60, 60, 5), (27, 26, 26), (4,) * 5 + (6,), (59,) * 6):
+            parts = tuple(bare(size) for size in sizes)
             for call in (things, whole):
-                if rows > 20000:
-                    refuses(self, TooMany, 20000, call, every, parts)
+                refuses(self, TooMany, 20000, call, every, parts)
+            refuses(self, TooMany, 20000, holds_in, every, parts, ("true",))
         self.assertEqual(len(things(every, (bare(26),) * 3)), 19683)
         self.assertEqual(len(things(every, (bare(4),) * 4 + (bare(31),))), 20000)
         refuses(self, TooMany, 20000, things, every, (bare(26), bare(26), bare(27)))
@@ -99,11 +96,11 @@ class Together(unittest.TestCase):
         self.assertEqual(whole(sum_shape((0, 0)), (bare(30), bare(30))).size, 60)
         refuses(self, TooMany, 60, whole, sum_shape((0, 0)), (bare(30), bare(31)))
         self.assertEqual(whole(product_shape((0, 0)), (bare(6), bare(10))).size, 60)
-        refuses(self, TooMany, 60, whole, product_shape((0, 0)), (bare(61 - 30), bare(2)))
+        refuses(self, TooMany, 60, whole, product_shape((0, 0)), (bare(31), bare(2)))
         large = Structure(60, (tuple(range(0, 60, 2)),), (tuple((a, b) for a in range(60) for b in range(60) if a < b),))
         self.assertTrue(whole(P, (large,)) == large)
         self.assertTrue(whole(S, (large,)) == large)
-        self.assertTrue(whole(S, (B,) * 0 + (Structure(0, ((),), ((),)),) * 6) == Structure(0, ((),), ((),)))
+        self.assertTrue(whole(S, (Structure(0, ((),), ((),)),) * 6) == Structure(0, ((),), ((),)))
 
     def test_six_parts(self):
         parts = (A, B, A, Structure(0, ((),), ((),)), A, B)
@@ -180,8 +177,8 @@ class Asked(unittest.TestCase):
 
     def test_by_kinds(self):
         # A part of one kind of the depth of a formula and of the extra leaves what holds.
-        deep = Shape((1, 0), P.domain, (all_rule((1, 0), 1, ("some", ("and", ("mark", 0, 1), ("not", ("same", 0, 1))))),), ())
-        deep = Shape((1, 0), product_shape((1, 0)).domain, deep.marks, ())
+        test = ("some", ("and", ("mark", 0, 1), ("not", ("same", 0, 1))))
+        deep = Shape((1, 0), product_shape((1, 0)).domain, (all_rule((1, 0), 1, test),), ())
         one, other = Structure(3, ((0, 1, 2),), ()), Structure(4, ((0, 1, 2, 3),), ())
         for formula in (("some", ("mark", 0, 0)), ("some", ("some", ("not", ("same", 0, 1))))):
             self.assertIs(holds_in(deep, (one, one), formula), holds_in(deep, (other, one), formula))

@@ -4,10 +4,10 @@ from wholebyparts.checks import check_index, is_between, power
 from wholebyparts.errors import InvalidFormula, InvalidRow, TooMany
 from wholebyparts.part.rows import NONE
 from wholebyparts.part.structures import MOST_SIZE, Structure
+from wholebyparts.read.readers import state_from
 from wholebyparts.say.formulas import is_well_formed, quantified
 from wholebyparts.say.levels import StructureLevels
 from wholebyparts.shape.rules import check_parts, word_at
-from wholebyparts.read.readers import state_from
 from wholebyparts.shape.shapes import check_shape
 from wholebyparts.shape.things import Things, things_of
 
