@@ -27,6 +27,13 @@ MODULES = {
     14: ("wholebyparts.main.machine", "wholebyparts.shape.shapes", "wholebyparts.part.structures",
          "wholebyparts.read.readers"),
     15: ("wholebyparts.main.asked", "wholebyparts.shape.shapes", "wholebyparts.part.structures"),
+    16: ("wholebyparts.main.exchange", "wholebyparts.shape.shapes", "wholebyparts.part.structures"),
+    17: ("wholebyparts.main.reduction", "wholebyparts.shape.shapes", "wholebyparts.part.structures",
+         "wholebyparts.read.readers"),
+    18: ("wholebyparts.main.powers", "wholebyparts.shape.rules", "wholebyparts.shape.shapes",
+         "wholebyparts.part.structures"),
+    19: ("wholebyparts.main.gaps", "wholebyparts.shape.shapes", "wholebyparts.say.meaning",
+         "wholebyparts.part.structures"),
 }
 
 

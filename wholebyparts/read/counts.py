@@ -59,11 +59,21 @@ def _unlike(least):
 def is_order_answer(reader, value):
     """Whether the value is an answer, with any such words."""
     check_reader(reader)
-    if not isinstance(value, tuple):
-        return False
     if value == ("free",):
-        return _is_free(reader_from(draft_of(reader)))
-    if len(value) != 3 or value[0] != "words":
+        return is_free(reader_from(draft_of(reader)))
+    return _are_words_apart(reader, value)
+
+
+def is_order_told(least, value):
+    """Whether the value is an answer for a least reader."""
+    if value == ("free",):
+        return is_free(least)
+    return _are_words_apart(least, value)
+
+
+def _are_words_apart(reader, value):
+    """Whether the value tells two words with equal counts of which the reader takes just one."""
+    if not isinstance(value, tuple) or len(value) != 3 or value[0] != "words":
         return False
     one, other = value[1:]
     if not is_word(reader.letters, one) or not is_word(reader.letters, other):
@@ -73,7 +83,8 @@ def is_order_answer(reader, value):
     return (state_from(reader, 0, one) in reader.accepting) != (state_from(reader, 0, other) in reader.accepting)
 
 
-def _is_free(least):
+def is_free(least):
+    """Whether a least reader is order-free."""
     return _unlike(least)[0] is None
 
 
@@ -117,7 +128,7 @@ def _checked(reader, counts):
     if not is_counts(reader.letters, counts):
         raise InvalidOperation("the counts are no tuple of one count for each letter")
     least = reader_from(draft_of(reader))
-    if not _is_free(least):
+    if not is_free(least):
         raise Refused(("order",))
     return least
 

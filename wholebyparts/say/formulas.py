@@ -40,13 +40,14 @@ def depth_of(signature, free, formula):
 def nodes_of(signature, free, formula):
     """How many nodes the formula has."""
     _check(signature, free, formula)
-    return _counted(formula)
+    return counted(formula)
 
 
-def _counted(formula):
+def counted(formula):
+    """The number of nodes of a formula."""
     if formula[0] in NUMBERS:
         return 1
-    return 1 + sum([_counted(part) for part in formula[1:]])
+    return 1 + sum([counted(part) for part in formula[1:]])
 
 
 def used(signature, free, formula):
@@ -137,12 +138,12 @@ def is_well_formed(signature, free, value):
     """Whether the value is a formula for the signature and so many free variables."""
     most = most_depth(free)
     waiting = [(value, 0, 1)]
-    counted = 0
+    nodes = 0
     # Nodes are counted while the value is met, as a value can hold one tuple endlessly often.
     while waiting:
         node, depth, within = waiting.pop()
-        counted += 1
-        if counted > MOST_NODES or within > MOST_WITHIN or depth > most:
+        nodes += 1
+        if nodes > MOST_NODES or within > MOST_WITHIN or depth > most:
             return False
         if not isinstance(node, tuple) or not node or not isinstance(node[0], str):
             return False
@@ -198,11 +199,11 @@ def quantified(formula):
 def is_within_bounds(formula):
     """Whether what is built like a formula has few enough nodes, and few enough within one another."""
     waiting = [(formula, 1)]
-    counted = 0
+    nodes = 0
     while waiting:
         node, within = waiting.pop()
-        counted += 1
-        if counted > MOST_NODES or within > MOST_WITHIN:
+        nodes += 1
+        if nodes > MOST_NODES or within > MOST_WITHIN:
             return False
         if node[0] not in NUMBERS:
             waiting.extend([(part, within + 1) for part in node[1:]])
