@@ -34,6 +34,11 @@ MODULES = {
          "wholebyparts.part.structures"),
     19: ("wholebyparts.main.gaps", "wholebyparts.shape.shapes", "wholebyparts.say.meaning",
          "wholebyparts.part.structures"),
+    20: ("wholebyparts.main.wholekinds", "wholebyparts.kinds.kinds", "wholebyparts.shape.shapes",
+         "wholebyparts.part.structures"),
+    21: ("wholebyparts.judge.claims", "wholebyparts.text.texts", "wholebyparts.part.structures",
+         "wholebyparts.read.readers"),
+    22: ("wholebyparts.house.desk", "wholebyparts.shape.shapes", "wholebyparts.part.structures"),
 }
 
 

@@ -5,16 +5,16 @@ from wholebyparts.part.rows import NONE
 
 
 def atom_of(structure, row):
-    """The atom of a row of the structure."""
+    """The atom of a row of the structure, or of what tells its marks and links as a structure does."""
     places = list(range(len(row)))
     pairs = [(i, j) for i in places for j in places]
     nones = [i for i in places if row[i] == NONE]
     same = [(i, j) for i, j in pairs if i < j and row[i] == row[j] and row[i] != NONE]
     marks = []
-    for mark in range(len(structure.marks)):
+    for mark in range(structure.signature[0]):
         marks.append(tuple([i for i in places if structure.is_marked(mark, row[i])]))
     links = []
-    for link in range(len(structure.links)):
+    for link in range(structure.signature[1]):
         links.append(tuple([(i, j) for i, j in pairs if structure.is_linked(link, row[i], row[j])]))
     return (tuple(nones), tuple(same), tuple(marks), tuple(links))
 

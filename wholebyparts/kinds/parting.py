@@ -9,6 +9,7 @@ from wholebyparts.part.structures import check_signature
 from wholebyparts.say.formulas import NEVER, bounded, is_well_formed, joined, most_depth, quantified
 from wholebyparts.say.levels import holds_at
 
+
 def formula_of(signature, places, kind):
     """Any formula that holds at just the rows of the kind."""
     check_signature(signature)
@@ -69,22 +70,22 @@ def parting_answer(one, row, other, goal, depth):
     numbering = Numbering(one, other)
     if numbering.is_one_kind(row, goal, depth):
         return ("alike",)
-    return ("formula", bounded(_parting(numbering, (0, row), (1, goal), depth)))
+    return ("formula", bounded(parting_of(numbering, (0, row), (1, goal), depth)))
 
 
-def _parting(numbering, spot, goal, depth):
+def parting_of(numbering, spot, goal, depth):
     """A formula of at most the depth that holds at the spot, and not at the goal: their kinds are unlike."""
     least = numbering.least_unlike(spot, goal, depth)
     if least == 0:
         return _node_parting(numbering.atom(spot), numbering.atom(goal), len(spot[1]))
     taken = numbering.lone_spot(spot, goal, least)
     if taken is None:
-        return ("not", _parting(numbering, goal, spot, least))
+        return ("not", parting_of(numbering, goal, spot, least))
     parting = {}
     for longer in numbering.spots_behind(goal):
         number = numbering.number(longer, least - 1)
         if number not in parting:
-            parting[number] = _parting(numbering, taken, longer, least - 1)
+            parting[number] = parting_of(numbering, taken, longer, least - 1)
     found = []
     for formula in parting.values():
         if formula not in found:

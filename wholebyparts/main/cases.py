@@ -147,7 +147,7 @@ class Clues:
 
     def __init__(self, questions, base, many):
         self.references = _references(questions)[1]
-        self.behind = ((1 << many) - 1) << base
+        self.lot_bits = ((1 << many) - 1) << base
         self.filled = [index for index, question in enumerate(questions) if question == ("some", TRUE)]
 
     def fit(self, case):
@@ -157,7 +157,7 @@ class Clues:
             told = case >> index & 1 ^ (1 if is_turned else 0)
             if found.setdefault(base, 1 if base is None else told) != told:
                 return False
-        is_filled = 1 if case & self.behind else 0
+        is_filled = 1 if case & self.lot_bits else 0
         return not [index for index in self.filled if case >> index & 1 != is_filled]
 
 

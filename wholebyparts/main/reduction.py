@@ -7,9 +7,8 @@ from wholebyparts.main.stocks import check_asked, check_depth_with, made_reader
 from wholebyparts.part.structures import check_signature
 from wholebyparts.read.drafts import draft_of, least_draft, led_draft, reader_from
 from wholebyparts.read.readers import Reader
-from wholebyparts.read.setforms import is_well_formed as is_set_formed
 from wholebyparts.read.setreaders import draft_of_formula
-from wholebyparts.read.sets import MOST_SET_LETTERS, MOST_TOLD, set_formula
+from wholebyparts.read.sets import MOST_SET_LETTERS, is_told_formula, set_formula
 from wholebyparts.say.formulas import MOST_DEPTH, is_formula_tuple, quantified
 from wholebyparts.say.levels import holds_at
 from wholebyparts.shape.rules import check_parts
@@ -61,7 +60,7 @@ def is_set_reduction(shape, stock, formula, value):
     if table is None:
         return False
     letters, question = len(value[0]), value[1]
-    if letters > MOST_SET_LETTERS or not is_set_formed(letters, 0, question, MOST_TOLD):
+    if letters > MOST_SET_LETTERS or not is_told_formula(letters, question):
         return False
     return _reads_as(draft_of_formula(letters, question), table, wanted)
 

@@ -9,7 +9,8 @@ from wholebyparts.read.parting import pairs_met, parting_word
 from wholebyparts.read.readers import MOST_LETTERS, MOST_STATES, check_reader, is_word, state_from
 
 
-def _check_both(one, other):
+def check_both(one, other):
+    """Refuse what are no two readers of equally many letters."""
     check_reader(one)
     check_reader(other)
     if one.letters != other.letters:
@@ -18,7 +19,7 @@ def _check_both(one, other):
 
 def both(one, other):
     """The least reader of what both take."""
-    _check_both(one, other)
+    check_both(one, other)
     return told_reader(_both(draft_of(one), draft_of(other)))
 
 
@@ -30,7 +31,7 @@ def _both(one, other):
 
 def either(one, other):
     """The least reader of what at least one of both takes."""
-    _check_both(one, other)
+    check_both(one, other)
     return told_reader(opposite_draft(_both(opposite_draft(draft_of(one)), opposite_draft(draft_of(other)))))
 
 
@@ -69,7 +70,7 @@ def guessed(reader, lots):
 
 def behind(one, other):
     """The least reader of the words that the one takes, with words that the other takes behind them."""
-    _check_both(one, other)
+    check_both(one, other)
     ahead, rest = draft_of(one), draft_of(other)
     # A thing is a state of the one and, by its bits, the states of the other that its words can be in.
     rows = [[1 << step[look] for look in rest.looks] for step in rest.steps]
@@ -107,7 +108,7 @@ def backward(reader):
 
 def alike_answer(one, other):
     """The pairs of states that show that both readers take the same, or a word that just one of both takes."""
-    _check_both(one, other)
+    check_both(one, other)
     word = parting_word(one, other, (0, 0))
     if word is not None:
         return ("word", word)
@@ -116,7 +117,7 @@ def alike_answer(one, other):
 
 def is_alike_answer(one, other, value):
     """Whether the value is an answer, with any such pairs, or any such word."""
-    _check_both(one, other)
+    check_both(one, other)
     if not isinstance(value, tuple) or len(value) != 2:
         return False
     if value[0] == "alike":

@@ -70,10 +70,15 @@ def set_formula(reader):
     return Telling(reader_from(draft_of(reader))).told()
 
 
+def is_told_formula(letters, value):
+    """Whether the value is a closed set formula, of as many nodes as one that is told can have."""
+    return is_well_formed(letters, 0, value, MOST_TOLD)
+
+
 def is_set_formula_of(reader, value):
     """Whether the value is a closed formula that holds of just the words that the reader takes."""
     _check_told(reader)
-    if not is_well_formed(reader.letters, 0, value, MOST_TOLD):
+    if not is_told_formula(reader.letters, value):
         return False
     told, wanted = draft_of_formula(reader.letters, value), draft_of(reader)
     return len(told.steps) == len(wanted.steps) and reader_from(told) == reader_from(wanted)

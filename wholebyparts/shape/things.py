@@ -4,6 +4,8 @@ from wholebyparts.part.rows import NONE
 from wholebyparts.say.levels import joined_answers
 from wholebyparts.shape.letters import pair_letters, single_letters
 
+MOST_PAIRED = 64
+
 
 def things_of(shape, parts):
     """The ascending list of the things."""
@@ -42,6 +44,7 @@ class Things:
     def __init__(self, shape, parts):
         self.shape = shape
         self.parts = parts
+        self.signature = shape.whole_signature
         self.things = things_of(shape, parts)
         self.size = len(self.things)
         self.tables = {}
@@ -85,3 +88,26 @@ class Things:
         if is_turned:
             return joined_answers([self.is_linked(link, goal, member) for goal in range(self.size)])
         return joined_answers([self.is_linked(link, member, goal) for goal in range(self.size)])
+
+    def codes(self):
+        """What the marks and links tell of each thing, and of each two, as `Structure.codes` does for elements.
+
+        Nobody asks for two of very many things.
+        """
+        singles = [0] * self.size
+        for member in range(self.size):
+            for mark in range(self.signature[0]):
+                singles[member] += self.is_marked(mark, member) << mark
+            for link in range(self.signature[1]):
+                singles[member] += self.is_linked(link, member, member) << 2 + link
+        if self.size > MOST_PAIRED:
+            return (singles, [])
+        every = range(self.size)
+        pairs = [[1 if a == b else 0 for b in every] for a in every]
+        for link in range(self.signature[1]):
+            for a in every:
+                for b in every:
+                    if self.is_linked(link, a, b):
+                        pairs[a][b] += 2 << 2 * link
+                        pairs[b][a] += 4 << 2 * link
+        return (singles, [*pairs, [0] * self.size])

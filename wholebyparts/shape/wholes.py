@@ -20,7 +20,7 @@ def _check(shape, parts):
     check_parts(shape.signature, parts)
 
 
-def _check_rows(parts):
+def check_rows_limit(parts):
     """The rows limit."""
     rows = 1
     for part in parts:
@@ -32,7 +32,7 @@ def _check_rows(parts):
 def things(shape, parts):
     """The ascending tuple of the things."""
     _check(shape, parts)
-    _check_rows(parts)
+    check_rows_limit(parts)
     return tuple(things_of(shape, parts))
 
 
@@ -58,7 +58,7 @@ def _does_hold(rule, parts, rows):
 def whole(shape, parts):
     """The whole, as a structure."""
     _check(shape, parts)
-    _check_rows(parts)
+    check_rows_limit(parts)
     told = Things(shape, parts)
     if told.size > MOST_SIZE:
         raise TooMany(MOST_SIZE)
@@ -96,7 +96,7 @@ def holds_in(shape, parts, formula):
     """Whether the closed formula about the whole holds in it, asked by the rules."""
     _check(shape, parts)
     check_whole_formula(shape, formula)
-    _check_rows(parts)
+    check_rows_limit(parts)
     told = Things(shape, parts)
     if power(told.size, quantified(formula)) > MOST_TRIED:
         raise TooMany(MOST_TRIED)

@@ -1,0 +1,1 @@
+"""A desk, at which a word over a stock is changed and asked."""

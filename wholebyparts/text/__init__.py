@@ -1,0 +1,1 @@
+"""Texts of structures, readers and formulas."""
