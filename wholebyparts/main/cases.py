@@ -13,8 +13,8 @@ from wholebyparts.say.levels import holds_at
 from wholebyparts.say.settled import TRUE, negated, settled, some_of
 
 # So many cases of one level are looked at, and so many lots behind a row, before this is too much.
-MOST_CASES = 600
-MOST_LOTS = 9
+MOST_CASES = 1000
+MOST_LOTS = 10
 MOST_UNTOLD = 9
 MOST_FORMULAS = 64
 
@@ -22,8 +22,7 @@ MOST_FORMULAS = 64
 class Level:
     """The cases of one level: numbers with a bit for each question, those of the tests first.
 
-    `last` tells for each case whether the last member of the row can be an element, whether it can be none, and
-    whether it can be the same element as the one ahead of it.
+    `patterns` has for each case those patterns of the row's members with which nothing is known to go against it.
     `lots` has for each case the lots behind: those with some element, and that with none. `references` tells where
     the answer to a test of a rule is found: the index of a question, and whether its answer is turned; without an
     index it is always the same.
@@ -36,7 +35,7 @@ class Level:
         self.shared = []
         self.questions = []
         self.cases = []
-        self.last = []
+        self.patterns = []
         self.lots = []
 
     def add_rule(self, key, tests, variables):
@@ -72,16 +71,15 @@ class Level:
     def begin(self):
         """The cases by the tests alone: those that some pattern of nones and equal members lets."""
         found = {}
-        for pattern in patterns(self.free):
+        for pattern in patterns_of(self.free):
             names = [*pattern, *range(self.free, 5)]
-            told = _of_last(pattern)
             for case in _answers([settled(test, names, 0, self.free) for test in self.tests]):
-                found[case] = [one or other for one, other in zip(found.get(case, [False] * 3), told)]
+                found.setdefault(case, []).append(pattern)
             if len(found) > MOST_CASES:
                 raise TooMany(MOST_FORMULAS)
         self.questions = list(self.tests)
         self.cases = sorted(found)
-        self.last = [tuple(found[case]) for case in self.cases]
+        self.patterns = [found[case] for case in self.cases]
         self.lots = [None] * len(self.cases)
 
     def go_on(self, level, classes):
@@ -91,28 +89,20 @@ class Level:
         base = len(self.tests)
         self.questions = [*self.tests, *[some for some, _ in told], *[none for _, none in told]]
         clues = Clues(self.questions, base, many)
-        cases, last, lots = [], [], []
-        for case, sides in zip(self.cases, self.last):
-            behind, nones, again = self.lots_behind(case, level, classes)
-            if len(behind) > MOST_LOTS:
-                raise TooMany(MOST_FORMULAS)
-            for none in nones:
-                for lot in _lots_of(behind):
-                    bits = sum([1 << one for one in lot]) + (1 << many + none)
-                    # An element stands behind itself, too.
-                    here = sides[0] and (self.free == 0 or [one for one in lot if one in again] != [])
-                    if (here or sides[1]) and clues.fit(case + (bits << base)):
-                        cases.append(case + (bits << base))
-                        last.append((here, sides[1], here and sides[2]))
-                        lots.append((lot, none))
+        cases, patterns, lots = [], [], []
+        for case, lets in zip(self.cases, self.patterns):
+            fitting = [index for index, longer in enumerate(level.cases) if self.fits(case, longer)]
+            sights = [Sight(pattern, level, classes, fitting) for pattern in lets]
+            for lot, none in _behind(sights):
+                kept = [sight.pattern for sight in sights if sight.lets(lot, none)]
+                longer = case + (sum([1 << one for one in lot]) + (1 << many + none) << base)
+                if kept and clues.fit(longer):
+                    cases.append(longer)
+                    patterns.append(kept)
+                    lots.append((lot, none))
             if len(cases) > MOST_CASES:
                 raise TooMany(MOST_FORMULAS)
-        self.cases, self.last, self.lots = cases, last, lots
-
-    def lots_behind(self, case, level, classes):
-        """The numbers of the lots that elements behind the row can have, that none can, that its last member can."""
-        fitting = [index for index, longer in enumerate(level.cases) if self.fits(case, longer)]
-        return [sorted({classes[index] for index in fitting if level.last[index][side]}) for side in range(3)]
+        self.cases, self.patterns, self.lots = cases, patterns, lots
 
     def fits(self, case, longer):
         """Whether a case of the next level answers alike what both levels ask."""
@@ -122,8 +112,8 @@ class Level:
         """What tells, one level up, that some element has a case of the lot behind the row, and that none has."""
         wanted = {case: True for case, told in zip(self.cases, classes) if told == number}
         told = []
-        for side in (0, 1):
-            cases = [case for case, sides in zip(self.cases, self.last) if sides[side]]
+        for is_none in (False, True):
+            cases = [case for case, lets in zip(self.cases, self.patterns) if _has_last(lets, is_none)]
             told.append(decided(self.questions, cases, wanted))
         above = self.free - 1
         names = [*range(above), NONE, *range(above, 5)]
@@ -137,6 +127,52 @@ class Level:
     def formula(self, wanted):
         """What tells the wanted cases, a list, from all others."""
         return decided(self.questions, self.cases, {case: True for case in wanted})
+
+
+class Sight:
+    """What is known of the lots behind a row whose members have the pattern, by the fitting cases of the next level.
+
+    `by_name` has for each name of a member behind the lots that it can have, `surely` those that no other one can;
+    `lots` are those of all elements behind, `nones` those of none.
+    """
+
+    def __init__(self, pattern, level, classes, fitting):
+        self.pattern = pattern
+        self.by_name = {}
+        for index in fitting:
+            for longer in level.patterns[index]:
+                if longer[:-1] == pattern:
+                    self.by_name.setdefault(longer[-1], {})[classes[index]] = True
+        self.names = sorted({name for name in pattern if name != NONE})
+        self.surely = {name: self.only(name) for name in self.names}
+        told = [one for name, lots in self.by_name.items() if name != NONE for one in lots]
+        self.lots = sorted(set(told))
+        self.nones = sorted(self.by_name.get(NONE, {}))
+
+    def only(self, name):
+        """The lots that a member behind has only if it has the name."""
+        others = [lots for other, lots in self.by_name.items() if other not in (name, NONE)]
+        return [one for one in self.by_name.get(name, {}) if not [lots for lots in others if one in lots]]
+
+    def lets(self, lot, none):
+        """Whether elements behind can have just these lots, and none this one: each member of the row is behind it."""
+        if none not in self.nones or [one for one in lot if one not in self.lots]:
+            return False
+        for name in self.names:
+            if not [one for one in lot if one in self.by_name.get(name, {})]:
+                return False
+            if len([one for one in lot if one in self.surely[name]]) > 1:
+                return False
+        return True
+
+
+def _behind(sights):
+    """All pairs of the lots, as a list, that elements behind a row can have, and of that which none behind can."""
+    every = sorted({one for sight in sights for one in sight.lots})
+    nones = sorted({one for sight in sights for one in sight.nones})
+    if len(every) > MOST_LOTS:
+        raise TooMany(MOST_FORMULAS)
+    return [(lot, none) for none in nones for lot in _lots_of(every)]
 
 
 class Clues:
@@ -169,7 +205,7 @@ def answered(reference, case):
     return case >> index & 1 ^ (1 if is_turned else 0)
 
 
-def patterns(many):
+def patterns_of(many):
     """All ways in which so many members can be none, or equal: each is none, or has the name of the first equal one."""
     found = [()]
     for place in range(many):
@@ -182,10 +218,9 @@ def _names(formula, variable):
     return with_order(formula, list(range(variable)) + [-2]) != formula
 
 
-def _of_last(pattern):
-    """Whether the last member of a pattern is an element, whether it is none, whether it is the one ahead of it."""
-    is_none = pattern != () and pattern[-1] == NONE
-    return (not is_none, is_none, not is_none and len(pattern) > 1 and pattern[-1] == pattern[-2])
+def _has_last(patterns, is_none):
+    """Whether some of the patterns has none last, or an element."""
+    return [pattern for pattern in patterns if (pattern[-1] == NONE) == is_none] != []
 
 
 def _references(formulas):
