@@ -157,11 +157,41 @@ class Answers(unittest.TestCase):
                 both = (taken, replied) if side == 0 else (replied, taken)
                 longer = (pair[0] + (both[0],), pair[1] + (both[1],))
                 self.assertIn(longer, levels[0])
-        for index in (0, 5000, len(levels[0]) - 1):
+        for index in (0, 1700, len(levels[0]) - 1):
             row, goal = levels[0][index]
             for other in (goal[:2], (*goal[:2], 15), (*goal[:2], True), (*goal[:2], None), list(goal), (*goal, 0)):
                 bent = levels[0][:index] + ((row, other),) + levels[0][index + 1:]
                 self.assertIs(is_book(order, order, (bent, *levels[1:])), False)
+
+    def test_long_books(self):
+        # Books that took long, and larger ones, with all pairs of one kind.
+        ring = Structure(6, ((0, 2),), (((0, 1), (1, 2), (2, 3), (3, 0)),))
+        order = Structure(5, (), (tuple((a, b) for a in range(5) for b in range(a + 1, 5)),))
+        for one, other in ((ring, ring), (ring, renamed(ring, (5, 3, 1, 0, 2, 4))), (order, order)):
+            told = book_answer(one, (), other, (), 3)
+            self.assertEqual(told[0], "book")
+            levels = told[1]
+            self.assertIs(is_book(one, other, levels), True)
+            self.assertIs(is_book_answer(one, (), other, (), 3, told), True)
+            wide = [list(level) for level in levels]
+            for rounds in (2, 1, 0):
+                rows = [tuple(row) for row in product(range(one.size), repeat=3 - rounds)]
+                kinds = [[(plain_kind(side, row, rounds), row) for row in rows] for side in (one, other)]
+                wide[rounds] = sorted((row, goal) for told_kind, row in kinds[0] for same, goal in kinds[1] if told_kind == same)
+                self.assertTrue(set(levels[rounds]) <= set(wide[rounds]))
+            wide = tuple(tuple(level) for level in wide)
+            self.assertIs(is_book(one, other, wide), True)
+            # Each single pair is needed, or not: as the plain judge tells.
+            for place in range(0, len(levels[1]), 5):
+                bent = levels[1][:place] + levels[1][place + 1:]
+                self.assertIs(is_book(one, other, (levels[0], bent, *levels[2:])), False)
+            for place in range(0, len(levels[0]), 37):
+                bent = levels[0][:place] + levels[0][place + 1:]
+                self.assertIs(is_book(one, other, (bent, *levels[1:])), False)
+                row, goal = levels[0][place]
+                for member in (True, None, -2, one.size, "0"):
+                    bent = levels[0][:place] + (((*row[:2], member), goal),) + levels[0][place + 1:]
+                    self.assertIs(is_book(one, other, (bent, *levels[1:])), False)
 
     def test_kinds_limit(self):
         fifteen, sixteen, marked = Structure(15, (), ()), Structure(16, (), ()), Structure(16, ((),), ())

@@ -270,5 +270,53 @@ class Told(unittest.TestCase):
         refuses_each(self, is_set_formula_of, (cycle(2), ONCE), [(0, InvalidReader, NO_READERS)])
 
 
+class Long(unittest.TestCase):
+    """Inputs that took long."""
+
+    def test_told_readers(self):
+        large = Reader(8, ((1, 0, 2, 1, 0, 2, 0, 1), (2, 1, 0, 0, 2, 1, 1, 2), (0, 2, 1, 2, 1, 0, 2, 0)), (0,))
+        self.assertIs(is_set_formula_of(large, set_formula(large)), True)
+        self.assertIs(is_set_formula_of(large, ("not", set_formula(large))), False)
+        self.assertIs(is_set_formula_of(opposite(large), ("not", set_formula(large))), True)
+        small = Reader(2, ((1, 0), (2, 1), (3, 2), (0, 3)), (0, 2))
+        self.assertTrue(set_reader(2, set_formula(small)) == least(small))
+        self.assertIs(is_set_formula_of(small, set_formula(small)), True)
+        self.assertIs(is_set_formula_of(small, set_formula(large)), False)
+
+    def test_most_letters_and_states(self):
+        # Whatever is told is judged: no reader of a part meets too much on the way.
+        chooser = Chooser(97)
+        for _ in range(120):
+            reader = chooser.reader(1 + chooser.number(8), 1 + chooser.number(4))
+            told = set_formula(reader)
+            self.assertIs(is_set_formula_of(reader, told), True)
+            other = chooser.reader(reader.letters, 1 + chooser.number(4))
+            self.assertIs(is_set_formula_of(other, told), least(other) == least(reader))
+
+    def test_wide_joins(self):
+        # Many parts that one word joins: few together are read at once, too many of them two by two.
+        letters = [("letter", letter, 0) for letter in range(8)]
+        for many in (2, 7, 8):
+            for word in ("and", "or"):
+                joined = letters[0]
+                for one in letters[1:many]:
+                    joined = (word, joined, one)
+                for twice in (joined, (word, joined, joined), (word, letters[3], (word, joined, ("not", ("single", 0))))):
+                    told = set_reader(8, ("some", ("and", ("single", 0), twice)))
+                    for text in all_words(8, 2):
+                        wanted = any(plainly_holds_of(text, (frozenset({place}),), twice) for place in range(len(text)))
+                        self.assertIs(plainly_takes(told, text), wanted)
+        # Eleven sets, each with a part of two states.
+        parts = [("within", one, other) for one in range(4) for other in range(4) if one != other]
+        joined = parts[0]
+        for one in parts[1:]:
+            joined = ("or", one, joined)
+        told = set_reader(1, ("all", ("all", ("all", ("all", joined)))))
+        for length in range(4):
+            sets_of = [frozenset(lot) for lot in lots_of(range(length))]
+            wanted = all(plainly_holds_of((0,) * length, at, joined) for at in product(sets_of, repeat=4))
+            self.assertIs(plainly_takes(told, (0,) * length), wanted)
+
+
 if __name__ == "__main__":
     unittest.main()

@@ -6,6 +6,9 @@ structures at hand, as `Structure.codes` gives them.
 
 from wholebyparts.part.rows import NONE
 
+# No code of two members has more bits.
+WIDTH = 5
+
 
 def told_of_last(codes, row):
     """What is told of the last member of a row; nothing of none, beside which all codes are alike."""
@@ -16,11 +19,15 @@ def told_of_last(codes, row):
     return (singles[last], *[pairs[member][last] for member in row[:-1]])
 
 
-def told_behind(codes, row):
-    """The list of what is told of each element behind the row."""
+def told_behind(codes, row, ahead):
+    """The list of one number for each element behind the row: equal ones tell alike of it and of what stands ahead.
+
+    The list behind the row without its last member can be used again; without a member it is None.
+    """
     singles, pairs = codes
-    beside = [pairs[member] for member in row]
-    return list(zip(singles, *beside))
+    if not row:
+        return singles
+    return [told << WIDTH | code for told, code in zip(ahead, pairs[row[-1]])]
 
 
 def has_equal_atoms(sides, row, goal):

@@ -1,15 +1,14 @@
 """Games between two structures: books for the second player, trees of moves for the first one."""
 
-from wholebyparts.checks import MOST_MEMBERS, are_integers, are_pairs, check_index, check_number, is_ascending, is_index
+from wholebyparts.checks import MOST_MEMBERS, check_index, check_number, is_index
 from wholebyparts.errors import InvalidBook, InvalidOperation
 from wholebyparts.kinds.atoms import atom_of
-from wholebyparts.kinds.codes import has_equal_atoms, told_behind, told_of_last
+from wholebyparts.kinds.books import holds_book
+from wholebyparts.kinds.codes import has_equal_atoms, told_of_last
 from wholebyparts.kinds.numbering import Numbering
 from wholebyparts.kinds.pairs import check_alike, check_limits, check_rows, check_sides, check_signatures
-from wholebyparts.part.rows import NONE, is_row
+from wholebyparts.part.rows import is_row
 from wholebyparts.part.structures import check_structure
-
-MOST_LEVELS = 4
 
 
 def _check_structures(one, other):
@@ -21,71 +20,12 @@ def _check_structures(one, other):
 def is_book(one, other, value):
     """Whether the value is a book of one to four levels."""
     _check_structures(one, other)
-    return _holds_book(one, other, value)
-
-
-def _holds_book(one, other, value):
-    if not isinstance(value, tuple) or not 1 <= len(value) <= MOST_LEVELS:
-        return False
-    if not all([_is_level(one, other, rounds, level) for rounds, level in enumerate(value)]):
-        return False
-    return all([_is_held(one, other, level, lower) for lower, level in zip(value, value[1:])])
-
-
-def _is_level(one, other, rounds, value):
-    """Whether the value is an ascending tuple of pairs of rows with equal atoms, for so many rounds."""
-    if not isinstance(value, tuple) or not are_pairs(value):
-        return False
-    rows, goals = [row for row, _ in value], [goal for _, goal in value]
-    if not _are_rows(one, rounds, rows) or not _are_rows(other, rounds, goals) or not is_ascending(value):
-        return False
-    return _have_equal_atoms(one, other, value)
-
-
-def _are_rows(structure, rounds, values):
-    """Whether all of the values are rows of the structure, so short that so many rounds can follow."""
-    if [row for row in values if type(row) is not tuple or len(row) > MOST_MEMBERS - rounds]:
-        return False
-    members = [member for row in values for member in row]
-    return are_integers(members) and (not members or (min(members) >= NONE and max(members) < structure.size))
-
-
-def _have_equal_atoms(one, other, pairs):
-    """Whether both rows of each pair are equally long, and have equal atoms."""
-    sides = (one.codes(), other.codes())
-    # Many rows begin alike: beginnings are compared once, and what is told behind them stands in lists, none last.
-    known = {}
-    lists = ({}, {})
-    for row, goal in pairs:
-        if len(row) != len(goal):
-            return False
-        if not row:
-            continue
-        ahead, others = row[:-1], goal[:-1]
-        if (ahead, others) not in known:
-            known[(ahead, others)] = has_equal_atoms(sides, ahead, others)
-            lists[0][ahead] = [*told_behind(sides[0], ahead), ()]
-            lists[1][others] = [*told_behind(sides[1], others), ()]
-        if not known[(ahead, others)] or lists[0][ahead][row[-1]] != lists[1][others][goal[-1]]:
-            return False
-    return True
+    return holds_book(one, other, value)
 
 
 def _is_pair(one, other, value):
     """Whether the value is a pair of rows, of the one and of the other structure."""
     return isinstance(value, tuple) and len(value) == 2 and is_row(one, value[0]) and is_row(other, value[1])
-
-
-def _is_held(one, other, level, lower):
-    """Whether for each pair of the level, and each element behind, the lower level has a reply."""
-    taken, replied = {}, {}
-    for row, goal in lower:
-        if row and row[-1] != NONE:
-            pair = (row[:-1], goal[:-1])
-            taken[pair] = taken.get(pair, 0) | 1 << row[-1]
-            replied[pair] = replied.get(pair, 0) | 1 << goal[-1]
-    every = ((1 << one.size) - 1, (1 << other.size) - 1)
-    return not [pair for pair in level if (taken.get(pair, 0), replied.get(pair, 0)) != every]
 
 
 def book_answer(one, row, other, goal, depth):
@@ -102,24 +42,27 @@ def _book(numbering, row, goal, depth):
     """The levels for two rows of one kind of the depth."""
     levels = [((row, goal),)]
     for rounds in range(depth):
-        # Few rows have many goals: sorted one by one they take less than all pairs would.
-        found = {}
-        for pair in levels[0]:
-            _put_behind(numbering, pair, depth - rounds - 1, found)
-        levels = [tuple([(one, other) for one in sorted(found) for other in sorted(found[one])]), *levels]
+        longer = []
+        for one, other in levels[0]:
+            told = _replies(numbering, one, other, depth - rounds - 1)
+            longer.extend([(one + (member,), other + (answer,)) for member, answer in told])
+        levels = [tuple(sorted(longer)), *levels]
     return tuple(levels)
 
 
-def _put_behind(numbering, pair, depth, found):
-    """Put each element of each side behind the row, with a reply that keeps the kinds of the depth."""
-    row, goal = pair
-    spots = ((0, row), (1, goal))
-    replies = numbering.firsts_behind(spots[1], depth)
-    for member, key in enumerate(numbering.keys_behind(spots[0], depth)):
-        found.setdefault(row + (member,), {})[goal + (replies[key],)] = True
-    replies = numbering.firsts_behind(spots[0], depth)
-    for member, key in enumerate(numbering.keys_behind(spots[1], depth)):
-        found.setdefault(row + (replies[key],), {})[goal + (member,)] = True
+def _replies(numbering, row, goal, depth):
+    """The ascending list of few pairs of elements of both sides, with each one, that keep the kinds of the depth."""
+    ahead, behind = numbering.lots_behind((0, row), depth), numbering.lots_behind((1, goal), depth)
+    found = []
+    for key, members in ahead.items():
+        answers = behind[key]
+        # Of unlike many elements of one kind the last one of the fewer ones answers for the rest.
+        if len(members) < len(answers):
+            members = members + members[-1:] * (len(answers) - len(members))
+        elif len(members) > len(answers):
+            answers = answers + answers[-1:] * (len(members) - len(answers))
+        found.extend(list(zip(members, answers)))
+    return sorted(found)
 
 
 def _tree(numbering, row, goal, depth):
@@ -148,7 +91,7 @@ def is_book_answer(one, row, other, goal, depth, value):
         return False
     if value[0] == "book":
         levels = value[1]
-        return _holds_book(one, other, levels) and len(levels) == depth + 1 and (row, goal) in levels[-1]
+        return holds_book(one, other, levels) and len(levels) == depth + 1 and (row, goal) in levels[-1]
     if value[0] != "tree":
         return False
     sides = (one.codes(), other.codes())
@@ -185,7 +128,7 @@ def _with_both(rows, side, taken, answer):
 def reply(one, other, levels, rounds, pair, side, element):
     """The least element of the other side by which the second player goes on in the book."""
     _check_structures(one, other)
-    if not _holds_book(one, other, levels):
+    if not holds_book(one, other, levels):
         raise InvalidBook("this is no book for the structures")
     check_number(rounds, 1, len(levels) - 1)
     if not _is_pair(one, other, pair) or pair not in levels[rounds]:

@@ -1,7 +1,8 @@
 """Numbers in the place of kinds: kinds are large, and compared again and again."""
 
 from wholebyparts.kinds.atoms import atom_of
-from wholebyparts.kinds.codes import told_behind, told_of_last
+from wholebyparts.kinds.codes import told_behind
+from wholebyparts.part.rows import NONE
 
 
 class Numbering:
@@ -12,13 +13,18 @@ class Numbering:
 
     def __init__(self, one, other):
         self.sides = (one, other)
-        self.side_codes = (one.codes(), one.codes() if other == one else other.codes())
+        self.is_one = other == one
+        self.side_codes = (one.codes(), one.codes() if self.is_one else other.codes())
         self.numbers = {}
         self.known = {}
 
+    def side_of(self, spot):
+        """The side on which what is told of the spot is kept: of one structure twice it is told once."""
+        return 0 if self.is_one else spot[0]
+
     def number(self, spot, depth):
         """The number of the row of the depth."""
-        key = (spot, depth)
+        key = (self.side_of(spot), spot[1], depth)
         if key not in self.known:
             self.known[key] = self.reckoned(spot, depth)
         return self.known[key]
@@ -29,30 +35,32 @@ class Numbering:
         if depth == 0:
             if not row:
                 return 0
-            key = (0, self.number((side, row[:-1]), 0), told_of_last(self.side_codes[side], row))
+            told = NONE if row[-1] == NONE else self.keys_behind((side, row[:-1]), 0)[row[-1]]
+            key = (0, self.number((side, row[:-1]), 0), told)
         else:
             key = (depth, self.number(spot, 0), tuple(sorted(set(self.keys_behind(spot, depth - 1)))))
         return self.numbers.setdefault(key, len(self.numbers) + 1)
 
     def keys_behind(self, spot, depth):
         """For each element behind the row a key: behind rows of one atom, keys are equal for one kind of the depth."""
-        key = (spot, depth, "behind")
+        key = (self.side_of(spot), spot[1], depth, "keys")
         if key not in self.known:
             side, row = spot
             if depth == 0:
-                told = told_behind(self.side_codes[side], row)
+                ahead = self.keys_behind((side, row[:-1]), 0) if row else None
+                told = told_behind(self.side_codes[side], row, ahead)
             else:
                 told = [self.number(longer, depth) for longer in self.spots_behind(spot)]
             self.known[key] = told
         return self.known[key]
 
-    def firsts_behind(self, spot, depth):
-        """For each key behind the row the first element that has it."""
-        key = (spot, depth, "firsts")
+    def lots_behind(self, spot, depth):
+        """For each key behind the row the ascending list of the elements that have it."""
+        key = (self.side_of(spot), spot[1], depth, "lots")
         if key not in self.known:
             found = {}
             for member, one in enumerate(self.keys_behind(spot, depth)):
-                found.setdefault(one, member)
+                found.setdefault(one, []).append(member)
             self.known[key] = found
         return self.known[key]
 

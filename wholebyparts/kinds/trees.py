@@ -25,8 +25,8 @@ class Trees:
         if key not in self.known:
             members = []
             if depth > 0:
-                firsts = self.numbering.firsts_behind((0, row), depth - 1)
-                behind = [row + (member,) for member in [NONE, *list(firsts.values())]]
+                lots = self.numbering.lots_behind((0, row), depth - 1)
+                behind = [row + (member,) for member in [NONE, *[lot[0] for lot in lots.values()]]]
                 members = sorted([self.tree(longer, depth - 1) for longer in behind])
             atom = atom_by_codes(self.structure.codes(), self.structure.signature, row)
             self.known[key] = (atom, tuple(members))

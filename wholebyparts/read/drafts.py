@@ -48,7 +48,7 @@ def explored(looks, begin, follow, accepts, limit=None):
 def sink_of(draft, is_accepting):
     """The state of a least draft from which every word is taken, or none is; LOST without one."""
     for state, step in enumerate(draft.steps):
-        if draft.accepting[state] == is_accepting and not [goal for goal in step if goal != state]:
+        if draft.accepting[state] == is_accepting and step.count(state) == len(step):
             return state
     return LOST
 
@@ -58,8 +58,9 @@ def both_draft(one, other, limit=None):
     looks, kept = numbered(list(zip(one.looks, other.looks)))
     base = len(other.steps)
     # Pairs are met as one number each, and those with a lost state all as one.
-    firsts = _goals(one, [look for look, _ in kept], base)
-    seconds = _goals(other, [look for _, look in kept], 1)
+    sinks = (sink_of(one, False), sink_of(other, False))
+    firsts = _goals(one, [look for look, _ in kept], sinks[0], base)
+    seconds = _goals(other, [look for _, look in kept], sinks[1], 1)
     lost = [LOST] * len(kept)
 
     def follow(pair):
@@ -70,13 +71,34 @@ def both_draft(one, other, limit=None):
     def accepts(pair):
         return pair != LOST and one.accepting[pair // base] and other.accepting[pair % base]
 
-    begin = LOST if 0 in (sink_of(one, False), sink_of(other, False)) else 0
-    return explored(looks, begin, follow, accepts, limit)
+    return explored(looks, LOST if 0 in sinks else 0, follow, accepts, limit)
 
 
-def _goals(draft, looks, times):
+def all_draft(drafts):
+    """The draft of what all of the least drafts take: for a few small ones, as there is no limit."""
+    every = [draft.looks for draft in drafts]
+    looks, kept = numbered(list(zip(*every)))
+    sinks = [sink_of(draft, False) for draft in drafts]
+    goals = [_goals(draft, told, lost, 1) for draft, told, lost in zip(drafts, list(zip(*kept)), sinks)]
+    accepting = [draft.accepting for draft in drafts]
+    lost = [LOST] * len(kept)
+
+    def follow(states):
+        if states == LOST:
+            return lost
+        rows = [table[state] for table, state in zip(goals, states)]
+        return [LOST if LOST in one else one for one in zip(*rows)]
+
+    def accepts(states):
+        return states != LOST and all([table[state] for table, state in zip(accepting, states)])
+
+    return explored(looks, LOST if 0 in sinks else (0,) * len(drafts), follow, accepts)
+
+
+def _goals(draft, looks, lost, times):
     """For each state the next ones by the looks, so many times as large; LOST for the one that is."""
-    lost = sink_of(draft, False)
+    if lost == LOST:
+        return [[step[look] * times for look in looks] for step in draft.steps]
     return [[LOST if step[look] == lost else step[look] * times for look in looks] for step in draft.steps]
 
 
@@ -143,6 +165,10 @@ def least_draft(draft, most=None):
     """The least draft that takes the same; TooMany if it has more states than the most."""
     looks, columns = numbered(list(zip(*draft.steps)))
     lots = lots_of(columns, draft.accepting, most)
+    if max(lots) + 1 == len(lots):
+        if len(columns) == len(looks):
+            return draft
+        return Draft([looks[look] for look in draft.looks], list(zip(*columns)), draft.accepting)
     found = {}
     for state, lot in enumerate(lots):
         found.setdefault(lot, state)
@@ -163,6 +189,11 @@ def draft_of(reader):
         lambda state: state in accepting,
     )
     return least_draft(draft)
+
+
+def is_one_draft(one, other):
+    """Whether two least drafts take the same: then they are written alike, too."""
+    return one.looks == other.looks and one.steps == other.steps and one.accepting == other.accepting
 
 
 def reader_from(draft):

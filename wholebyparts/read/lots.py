@@ -1,6 +1,10 @@
-"""Lots of alike states: parted by acceptance, then by the lots to which letters lead (Hopcroft's way)."""
+"""Lots of alike states: parted by acceptance, then by the lots to which letters lead (many: Hopcroft's way)."""
 
 from wholebyparts.errors import TooMany
+
+
+# Of so many states all that leads on from them is soon compared.
+FEW_STATES = 16
 
 
 class Parting:
@@ -59,8 +63,10 @@ class Parting:
 def numbered(keys):
     """For each key a number, the same for equal ones, in the sequence in which they come; and each key once."""
     found = {}
-    numbers = [found.setdefault(key, len(found)) for key in keys]
-    return (numbers, list(found))
+    for key in keys:
+        if key not in found:
+            found[key] = len(found)
+    return ([found[key] for key in keys], list(found))
 
 
 def _sources(column):
@@ -73,6 +79,22 @@ def _sources(column):
 
 def lots_of(columns, accepting, most):
     """The lot of alike states of each state, numbered in the sequence in which they come; TooMany for too many."""
+    if len(accepting) <= FEW_STATES:
+        lots, many = _few_lots(columns, accepting)
+        if most is not None and many > most:
+            raise TooMany(most)
+        return lots
     parting = Parting(columns, accepting)
     parting.part(most)
     return numbered(parting.where)[0]
+
+
+def _few_lots(columns, accepting):
+    """The lots of few states, and how many there are: all are parted at once, as long as there come more."""
+    lots, found = numbered(accepting)
+    many = 0
+    while many < len(found) < len(accepting):
+        many = len(found)
+        rows = [[lots[goal] for goal in column] for column in columns]
+        lots, found = numbered(list(zip(lots, *rows)))
+    return (lots, len(found))

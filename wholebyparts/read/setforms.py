@@ -1,6 +1,5 @@
 """Set formulas: which values are some, and where they hold."""
 
-from wholebyparts.checks import is_index
 from wholebyparts.say.levels import RowLevels
 
 MOST_AT_ONCE = 6
@@ -41,7 +40,11 @@ def _is_plain(letters, bound, node):
     signs = PLAIN[node[0]]
     if len(node) != len(signs) + 1:
         return False
-    return all([is_index(number, letters if sign == "a" else bound) for sign, number in zip(signs, node[1:])])
+    for sign, number in zip(signs, node[1:]):
+        # This is asked of many nodes: so nothing is called for each number.
+        if type(number) is not int or number < 0 or number >= (letters if sign == "a" else bound):
+            return False
+    return True
 
 
 def quantified(formula):

@@ -2,7 +2,7 @@
 
 from wholebyparts.checks import check_number, is_index_tuple
 from wholebyparts.errors import InvalidFormula, InvalidOperation, TooMany
-from wholebyparts.read.drafts import draft_of, reader_from
+from wholebyparts.read.drafts import draft_of, is_one_draft, reader_from
 from wholebyparts.read.readers import check_reader, check_word
 from wholebyparts.read.setforms import SetLevels, is_well_formed, places_of, quantified
 from wholebyparts.read.setreaders import draft_of_formula
@@ -80,5 +80,4 @@ def is_set_formula_of(reader, value):
     _check_told(reader)
     if not is_told_formula(reader.letters, value):
         return False
-    told, wanted = draft_of_formula(reader.letters, value), draft_of(reader)
-    return len(told.steps) == len(wanted.steps) and reader_from(told) == reader_from(wanted)
+    return is_one_draft(draft_of_formula(reader.letters, value), draft_of(reader))

@@ -4,72 +4,100 @@ from wholebyparts.say.formulas import joined
 
 
 class Telling:
-    """What is said of the states of a reader: the variables 0 to bits - 1 stand for the sets of the bits.
+    """What is said of the states of a least reader: the variables 0 to bits - 1 stand for the sets of the bits.
 
-    The variable `place` behind them stands for a set of just one place. Each part that is said of it says that,
-    too: so the readers of all parts stay small.
+    The variable `goal` behind them stands for a set of just one place, `place` for one of the place ahead of it. Most
+    parts that are said of `place` say that it is one place, too: so the readers of all parts stay small.
     """
 
     def __init__(self, reader):
         self.reader = reader
+        self.states = list(range(reader.states))
         self.bits = (reader.states - 1).bit_length()
-        self.place = self.bits
+        self.goal = self.bits
+        self.place = self.bits + 1
 
     def told(self):
         """The closed formula that holds of the words that the reader takes."""
         if self.bits == 0:
             always = ("all", ("within", 0, 0))
             return always if self.reader.accepting else ("not", always)
-        found = [self.begun(), self.gone_on(), *self.ended()]
-        if 0 not in self.reader.accepting:
-            found.append(("some", ("single", self.place)))
-        formula = joined("and", found)
+        leading = [self.leading(bit) for bit in range(self.bits)]
+        formula = ("and", self.gone_on(leading), self.ended(leading))
         for _ in range(self.bits):
             formula = ("some", formula)
         return formula
 
-    def begun(self):
-        """No first place has another state than 0 ahead."""
-        first = ("and", ("single", self.place), ("not", ("some", ("before", self.place + 1, self.place))))
-        other = joined("or", [("within", self.place, bit) for bit in range(self.bits)])
-        return ("not", ("some", ("and", first, other)))
-
-    def gone_on(self):
-        """No place has behind it one whose state ahead is not the one to which its letter leads."""
-        x, y, z = self.place, self.place + 1, self.place + 2
+    def gone_on(self, leading):
+        """Each place has just the bits to which the letter of the one ahead of it leads; so the first one has none."""
+        x, y, z = self.place, self.goal, self.place + 1
         between = ("some", ("and", ("before", x, z), ("before", z, y)))
-        wrong = []
-        for bit in range(self.bits):
-            within = ("within", y, bit)
-            for goals, told in (self.with_bit(bit, 1), ("not", within)), (self.with_bit(bit, 0), within):
-                wrong.extend([("and", formula, ("and", ("single", y), told)) for formula in self.leading(goals)])
         neighbours = ("and", ("before", x, y), ("not", between))
-        return ("not", ("some", ("some", ("and", neighbours, joined("or", wrong)))))
+        wrong = []
+        for bit, formula in enumerate(leading):
+            within, wanted = ("within", y, bit), ("some", ("and", neighbours, formula))
+            wrong.append(("and", ("and", ("single", y), within), ("not", wanted)))
+            wrong.append(("and", ("not", within), wanted))
+        return ("not", ("some", joined("or", wrong)))
 
-    def with_bit(self, bit, worth):
-        """The states whose numbers have the told bit."""
-        return [state for state in range(self.reader.states) if state >> bit & 1 == worth]
+    def ended(self, leading):
+        """From the last place its letter leads to a state that accepts, or there is no place, if 0 accepts."""
+        is_last = ("not", ("some", ("before", self.place, self.place + 1)))
+        is_empty_taken = 0 in self.reader.accepting
+        goals = [state for state in self.states if (state in self.reader.accepting) != is_empty_taken]
+        told = ("and", self.chosen(leading, self.states, goals), is_last)
+        # Two bits can be told by "not" alone.
+        if self.bits > 1:
+            told = ("and", ("single", self.place), told)
+        # The first variable is not asked: but for it the place has the same one as elsewhere.
+        formula = ("some", ("some", told))
+        return ("not", formula) if is_empty_taken else formula
 
-    def ended(self):
-        """A list with the formula that from no last place a letter leads to a state that does not accept."""
-        last = ("and", ("single", self.place), ("not", ("some", ("before", self.place, self.place + 1))))
-        goals = [state for state in range(self.reader.states) if state not in self.reader.accepting]
-        return [("not", ("some", ("and", last, formula))) for formula in self.leading(goals)]
-
-    def leading(self, goals):
-        """A list with the formula that from the state ahead of the place its letter leads to one of the goals.
-
-        Without a state that leads there, the list is empty.
-        """
+    def leading(self, bit):
+        """From the state ahead of the place its letter leads to one with the bit."""
+        within = [("within", self.place, one) for one in range(self.bits)]
         found = []
-        for state, step in enumerate(self.reader.steps):
-            letters = [letter for letter, goal in enumerate(step) if goal in goals]
-            if letters:
-                told = joined("or", [("letter", letter, self.place) for letter in letters])
-                found.append(joined("and", [("single", self.place), *self.ahead(state), told]))
-        return [joined("or", found)] if found else []
+        for states, letters in self.steps_to(bit):
+            told = self.lettered(letters)
+            if len(states) < len(self.states):
+                told = ("and", told, self.chosen(within, self.states, states))
+            found.append(told)
+        return joined("or", found)
 
-    def ahead(self, state):
-        """The formulas that the state is the one ahead of the place."""
-        told = [("within", self.place, bit) for bit in range(self.bits)]
-        return [one if state >> bit & 1 else ("not", one) for bit, one in enumerate(told)]
+    def steps_to(self, bit):
+        """Few pairs of lists of states and of letters that lead from each of them to a state with the bit: all such."""
+        by_letter, by_state = {}, {}
+        for letter in range(self.reader.letters):
+            states = [state for state, step in enumerate(self.reader.steps) if step[letter] >> bit & 1]
+            by_letter.setdefault(tuple(states), []).append(letter)
+        for state, step in enumerate(self.reader.steps):
+            letters = [letter for letter, goal in enumerate(step) if goal >> bit & 1]
+            by_state.setdefault(tuple(letters), []).append(state)
+        lots = [(list(states), letters) for states, letters in by_letter.items() if states]
+        others = [(states, list(letters)) for letters, states in by_state.items() if letters]
+        return lots if len(lots) <= len(others) else others
+
+    def lettered(self, letters):
+        """At the place, which is one alone, stands one of the letters."""
+        others = [letter for letter in range(self.reader.letters) if letter not in letters]
+        if not others:
+            return ("single", self.place)
+        is_short = len(letters) <= len(others)
+        told = joined("or", [("letter", letter, self.place) for letter in (letters if is_short else others)])
+        return ("and", ("single", self.place), told if is_short else ("not", told))
+
+    def chosen(self, questions, states, wanted):
+        """The state, one of these, is a wanted one, as the questions for its bits tell: neither all nor none are."""
+        sides = [([], []) for _ in questions]
+        for state in states:
+            for bit, parts in enumerate(sides):
+                parts[state >> bit & 1].append(state)
+        parted = [bit for bit, parts in enumerate(sides) if parts[0] and parts[1]]
+        found = []
+        for side, formula in zip(sides[parted[0]], (("not", questions[parted[0]]), questions[parted[0]])):
+            told = [state for state in side if state in wanted]
+            if len(told) == len(side):
+                found.append(formula)
+            elif told:
+                found.append(("and", formula, self.chosen(questions, side, told)))
+        return joined("or", found)
