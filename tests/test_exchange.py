@@ -140,12 +140,12 @@ class Words(unittest.TestCase):
             for one, other in product(few, all_words(len(stock), 2)[:5]):
                 told = beginnings_answer(shape, stock, formula, one, other)
                 rests = [("rest", rest) for rest in all_words(len(stock), 2)]
-                for value in [*bent(told), *WRONG, *rests, ("rest",), ("alike", ()), ("around", (), ()), ["alike"], "alike"]:
+                for value in [*bent(told), *WRONG, *rests, ("alike",), ("rest",), ("alike", ()), ("around", (), ()), ["alike"], "alike"]:
                     wanted = is_plain_rest(reader, one, other, value)
                     self.assertIs(is_beginnings_answer(shape, stock, formula, one, other, value), wanted)
                 told = middles_answer(shape, stock, formula, one, other)
                 around = [("around", *words) for words in product(few, few)]
-                for value in [*bent(told), *WRONG, *around, ("rest", ()), ("around",), ("around", ()), ("alike", ()), ["alike"]]:
+                for value in [*bent(told), *WRONG, *around, ("alike",), ("rest", ()), ("around",), ("around", ()), ("alike", ()), ["alike"]]:
                     wanted = is_plain_around(reader, one, other, value)
                     self.assertIs(is_middles_answer(shape, stock, formula, one, other, value), wanted)
 
@@ -230,6 +230,16 @@ class Lots(unittest.TestCase):
         self.assertEqual(middles_number(from_the_end(8), STOCK, SOME), 511)
         self.assertEqual(len(middles(from_the_end(8), STOCK, SOME)), 511)
         self.assertEqual(multiplied(from_the_end(8), STOCK, SOME, (1,) * 20, (0,)), (1,) * 7 + (0,))
+        # Just 512 of them, and one more.
+        edge = by_reader(((6, 3), (2, 3), (5, 2), (2, 1), (0, 0), (5, 4), (6, 0)), (1,))
+        self.assertEqual(reader_of(edge, STOCK, SOME).states, 7)
+        self.assertEqual(middles_number(edge, STOCK, SOME), 512)
+        self.assertEqual(len(set(middles(edge, STOCK, SOME))), 512)
+        self.assertEqual(multiplied(edge, STOCK, SOME, (0,), (1,)), (0, 1))
+        over = by_reader(((3, 1), (2, 1), (4, 3), (5, 0), (4, 3), (1, 2)), (2,))
+        self.assertEqual(reader_of(over, STOCK, SOME).states, 6)
+        for call, words in ((middles_number, ()), (middles, ()), (multiplied, ((0,), (1,)))):
+            refuses(self, TooMany, 512, call, over, STOCK, SOME, *words)
         shape = from_the_end(9)
         self.assertEqual(beginnings_number(shape, STOCK, SOME), 512)
         self.assertEqual(len(beginnings(shape, STOCK, SOME)), 512)

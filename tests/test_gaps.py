@@ -99,6 +99,11 @@ class Answers(unittest.TestCase):
                 self.assertIs(is_gap_for(shape, stock, formula, index, told), True)
                 self.assertIs(is_gap_for(shape, stock, formula, index, ("never",)), told == ("never",))
         self.assertGreater(min(seen.values()), 20)
+        # What must have just three parts behind it: no shorter rest is taken.
+        shape = by_reader(((0, 1), (2, 1), (3, 1), (4, 1), (0, 1)), (4,))
+        told = gap_for(shape, (BARE, MARKED), SOME, 1)
+        self.assertEqual((told[0], told[2]), ("gap", (0, 0, 0)))
+        self.assertIs(is_gap_for(shape, (BARE, MARKED), SOME, 1, told), True)
         far = gap_for(from_the_end(9), (BARE, MARKED), SOME, 0)
         self.assertTrue(is_plain_gap(reader_of(from_the_end(9), (BARE, MARKED), SOME), 0, far))
 

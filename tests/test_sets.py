@@ -293,6 +293,20 @@ class Long(unittest.TestCase):
             other = chooser.reader(reader.letters, 1 + chooser.number(4))
             self.assertIs(is_set_formula_of(other, told), least(other) == least(reader))
 
+    def test_pairs_of_plain_forms(self):
+        plain = [("letter", letter, x) for letter in (0, 1) for x in (0, 1)] + [("single", x) for x in (0, 1)]
+        plain += [(word, x, y) for word in ("within", "before") for x in (0, 1) for y in (0, 1)]
+        words = all_words(2, 3)
+        at = {word: [[frozenset(lot) for lot in lots_of(range(len(word)))]] * 2 for word in words}
+        for one, other in product(plain, plain):
+            for formula in (("and", one, other), ("and", one, ("not", other)), ("and", other, ("or", ("not", one), ("single", 1)))):
+                for first, second in (("some", "some"), ("all", "some"), ("some", "all")):
+                    told = set_reader(2, (first, (second, formula)))
+                    for word in words:
+                        rows = {pair: plainly_holds_of(word, pair, formula) for pair in product(*at[word])}
+                        inner = [(any if second == "some" else all)([rows[(x, y)] for y in at[word][1]]) for x in at[word][0]]
+                        self.assertIs(plainly_takes(told, word), (any if first == "some" else all)(inner))
+
     def test_wide_joins(self):
         # Many parts that one word joins: few together are read at once, too many of them two by two.
         letters = [("letter", letter, 0) for letter in range(8)]

@@ -16,6 +16,8 @@ from wholebyparts.say.settled import TRUE, negated, settled, some_of
 MOST_CASES = 1000
 MOST_LOTS = 10
 MOST_UNTOLD = 9
+# No variable, free or bound, has a greater number than the next lesser one.
+MOST_NUMBERS = 5
 MOST_FORMULAS = 64
 
 
@@ -42,7 +44,7 @@ class Level:
         """The tests of a rule, asked of the variables, are questions from now on."""
         if key not in self.references:
             order = (*variables, self.free)
-            told = [settled(with_order(test, order), list(range(5)), self.free) for test in tests]
+            told = [settled(with_order(test, order), list(range(MOST_NUMBERS)), self.free) for test in tests]
             self.references[key] = [self.reference(test) for test in told]
 
     def reference(self, test):
@@ -58,7 +60,7 @@ class Level:
 
     def add_shared(self, level):
         """What the next level asks without its last variable is asked here, too, as it goes on holding there."""
-        names = [*range(self.free), NONE, *range(self.free, 5)]
+        names = _without_last(self.free)
         for index, test in enumerate(list(level.tests)):
             if not _names(test, self.free):
                 self.shared.append((index, self.reference(settled(test, names, self.free))))
@@ -72,7 +74,7 @@ class Level:
         """The cases by the tests alone: those that some pattern of nones and equal members lets."""
         found = {}
         for pattern in patterns_of(self.free):
-            names = [*pattern, *range(self.free, 5)]
+            names = list(pattern) + list(range(self.free, MOST_NUMBERS))
             for case in _answers([settled(test, names, 0, self.free) for test in self.tests]):
                 found.setdefault(case, []).append(pattern)
             if len(found) > MOST_CASES:
@@ -116,8 +118,8 @@ class Level:
             cases = [case for case, lets in zip(self.cases, self.patterns) if _has_last(lets, is_none)]
             told.append(decided(self.questions, cases, wanted))
         above = self.free - 1
-        names = [*range(above), NONE, *range(above, 5)]
-        return (some_of(settled(told[0], list(range(5)), above)), settled(told[1], names, above))
+        some = settled(told[0], list(range(MOST_NUMBERS)), above)
+        return (some_of(some), settled(told[1], _without_last(above), above))
 
     def case_of(self, structure):
         """The case of a structure, by its answers: for the level 0."""
@@ -211,6 +213,11 @@ def patterns_of(many):
     for place in range(many):
         found = [one + (name,) for one in found for name in [NONE, *sorted({x for x in one if x != NONE}), place]]
     return found
+
+
+def _without_last(variable):
+    """The names by which the variable is none, and those that are bound behind it move down."""
+    return list(range(variable)) + [NONE] + list(range(variable, MOST_NUMBERS))
 
 
 def _names(formula, variable):

@@ -93,7 +93,8 @@ class SetMaking:
             names = tuple(sorted({name for sights in told for name in sights[0]}))
             every = [sights[1] for sights in told]
             numbers, seen = numbered(list(zip(*every)))
-            tables = [self.table(names, sights, list(column)) for sights, column in zip(told, zip(*seen))]
+            columns = list(zip(*seen))
+            tables = [self.table(names, sights, column) for sights, column in zip(told, columns)]
             self.joints[key] = ((names, tuple(numbers)), tables)
         sights, tables = self.joints[key]
         return (sights, [_seen(draft, table) for (_, draft), table in zip(parts, tables)])
