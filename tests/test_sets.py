@@ -307,6 +307,16 @@ class Long(unittest.TestCase):
                         inner = [(any if second == "some" else all)([rows[(x, y)] for y in at[word][1]]) for x in at[word][0]]
                         self.assertIs(plainly_takes(told, word), (any if first == "some" else all)(inner))
 
+    def test_before_longer_sets(self):
+        # Sets with more places are not before one another, wherever these are.
+        never = ("not", EVERY)
+        for x, y in ((0, 1), (1, 0)):
+            for one in (0, 1):
+                formula = ("some", ("some", ("and", ("before", x, y), ("not", ("single", one)))))
+                self.assertTrue(set_reader(2, formula) == set_reader(2, never))
+            same = ("some", ("some", ("and", ("before", x, y), ("before", y, x))))
+            self.assertTrue(set_reader(2, same) == set_reader(2, never))
+
     def test_wide_joins(self):
         # Many parts that one word joins: few together are read at once, too many of them two by two.
         letters = [("letter", letter, 0) for letter in range(8)]
