@@ -123,17 +123,26 @@ def led_draft(draft, table):
 
 
 def guessed_draft(draft, lots, limit):
-    """The draft that takes a word if some reading of it is taken; TooMany of the limit for too many sets of states.
+    """The draft that takes a word if some reading of it is taken; TooMany of the limit for too many sets of states."""
+    looks, kept = numbered([tuple(sorted({draft.looks[letter] for letter in lot})) for lot in lots])
+    return guessed_looks(draft, looks, kept, limit)
+
+
+def guessed_looks(draft, looks, kept, limit):
+    """The draft of these looks that reads each of them as any of the kept ones of it, which are looks of the draft.
 
     A set of states is a number with a bit for each: without the state from which nothing is taken, and with no
     other one beside that from which all is.
     """
-    looks, kept = numbered([tuple(sorted({draft.looks[letter] for letter in lot})) for lot in lots])
     sink = sink_of(draft, True)
     bits = [1 << state for state in range(len(draft.steps))]
-    if sink_of(draft, False) != LOST:
-        bits[sink_of(draft, False)] = 0
-    rows = [[joined_bits([bits[step[look]] for look in lot]) for lot in kept] for step in draft.steps]
+    lost = sink_of(draft, False)
+    if lost != LOST:
+        bits[lost] = 0
+    rows = []
+    for step in draft.steps:
+        told = [bits[goal] for goal in step]
+        rows.append([joined_bits([told[look] for look in lot]) for lot in kept])
     accepting = joined_bits([bit for bit, accepts in zip(bits, draft.accepting) if accepts])
     whole = 0 if sink == LOST else bits[sink]
 

@@ -1,6 +1,6 @@
 """The readers of set formulas, made part by part."""
 
-from wholebyparts.read.drafts import Draft, all_draft, both_draft, either_draft, guessed_draft
+from wholebyparts.read.drafts import Draft, all_draft, both_draft, either_draft, guessed_looks
 from wholebyparts.read.drafts import least_draft, opposite_draft
 from wholebyparts.read.lots import numbered
 from wholebyparts.read.setforms import PLAIN
@@ -141,9 +141,10 @@ def _some(part, bound):
     (names, numbers), draft = part
     if bound not in names:
         return part
-    many = (max(numbers) + 1) << (len(names) - 1)
-    lots = [(letter, letter + many) for letter in range(many)]
-    return ((names[:-1], numbers), least_draft(guessed_draft(draft, lots, MOST_MADE)))
+    # In the second half of the letters the place is in the last set.
+    many = len(draft.looks) // 2
+    looks, kept = numbered(list(zip(draft.looks[:many], draft.looks[many:])))
+    return ((names[:-1], numbers), least_draft(guessed_looks(draft, looks, kept, MOST_MADE)))
 
 
 def _plain(letters, formula):

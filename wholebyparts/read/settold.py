@@ -2,6 +2,9 @@
 
 from wholebyparts.say.formulas import joined
 
+# More pairs of states and letters than these are told one by one.
+FEW_STEPS = 2
+
 
 class Telling:
     """What is said of the states of a least reader: the variables 0 to bits - 1 stand for the sets of the bits.
@@ -54,15 +57,23 @@ class Telling:
         return ("not", formula) if is_empty_taken else formula
 
     def leading(self, bit):
-        """From the state ahead of the place its letter leads to one with the bit."""
+        """From the state ahead of the place, which is one alone, its letter leads to a state with the bit."""
+        single = ("single", self.place)
         within = [("within", self.place, one) for one in range(self.bits)]
+        steps = self.steps_to(bit)
+        # Of many parts each one must say that the place is one alone, so that all together stay small.
+        is_early = len(steps) > FEW_STEPS
         found = []
-        for states, letters in self.steps_to(bit):
+        for states, letters in steps:
             told = self.lettered(letters)
+            if is_early:
+                told = ("and", single, told) if told else single
             if len(states) < len(self.states):
-                told = ("and", told, self.chosen(within, self.states, states))
-            found.append(told)
-        return joined("or", found)
+                state = self.chosen(within, self.states, states)
+                told = ("and", told, state) if told else state
+            found.append(told if told else single)
+        formula = joined("or", found)
+        return formula if is_early or formula == single else ("and", single, formula)
 
     def steps_to(self, bit):
         """Few pairs of lists of states and of letters that lead from each of them to a state with the bit: all such."""
@@ -78,13 +89,13 @@ class Telling:
         return lots if len(lots) <= len(others) else others
 
     def lettered(self, letters):
-        """At the place, which is one alone, stands one of the letters."""
+        """At the place stands one of the letters; None if that is always so."""
         others = [letter for letter in range(self.reader.letters) if letter not in letters]
         if not others:
-            return ("single", self.place)
-        is_short = len(letters) <= len(others)
-        told = joined("or", [("letter", letter, self.place) for letter in (letters if is_short else others)])
-        return ("and", ("single", self.place), told if is_short else ("not", told))
+            return None
+        if len(letters) <= len(others):
+            return joined("or", [("letter", letter, self.place) for letter in letters])
+        return ("not", joined("or", [("letter", letter, self.place) for letter in others]))
 
     def chosen(self, questions, states, wanted):
         """The state, one of these, is a wanted one, as the questions for its bits tell: neither all nor none are."""
