@@ -80,8 +80,8 @@ class Reducing:
         columns = [draft.looks for draft in guessing.values()]
         classes = numbered(list(zip(*columns)))[0]
         level.go_on(deeper, classes)
-        firsts = [classes.index(number) for number in range(max(classes) + 1)]
-        lots = [[firsts[number] for number in [*lot, none]] for lot, none in level.lots]
+        firsts = [classes.index(one) for one in range(max(classes) + 1)]
+        lots = [[firsts[one] for one in [*lot, none]] for lot, none in level.lots]
         for number, draft in guessing.items():
             self.guessed[number] = guessed_draft(draft, lots, MOST_STATES)
 
